@@ -1,0 +1,1 @@
+"""Clankernel: a small kernel of messages, handed rights, lent pages and clans."""

@@ -1,0 +1,103 @@
+"""The examples of the document, to the letter; later sections go on with the names of earlier ones."""
+
+import doctest
+import unittest
+
+EXAMPLES = {
+    4: r"""
+>>> from clankernel.rows import is_placed, row_of, row_text, word_of
+>>> [row_of(4099), row_of(12801), row_of(0), word_of(('store', 1, 3, 32)), row_text(('some', 0, 2)), is_placed(('go', 1))]
+[('set', 0, 3), ('add', 1, 0), None, 21216, 'some r0 2', False]
+""",
+    5: r"""
+>>> from clankernel.asm import moved, Program, text_of
+>>> count = Program('start:\nset r0 3\nset r1 0\nloop:\nadd r1 r0\nset r2 1\nsub r0 r2\nsome r0 loop\nstore r1 r3 32\ntrap 0')
+>>> [count.words[:3], count.words[5:], count.names]
+[((0, 4099), (1, 4608), (2, 12801)), ((5, 32770), (6, 21216), (7, 57344)), (('loop', 2), ('start', 0))]
+>>> [text_of(((0, 4099), (1, 0), (9, 57344))), moved(count.words, 16)[5], moved(count.words, 16)[0]]
+['at 0\nset r0 3\nword 0\nat 9\ntrap 0', (21, 32786), (16, 4099)]
+""",
+    6: r"""
+>>> from clankernel.cells import Cell, does, memory_of, run_rows, step, touches, wants
+>>> from clankernel.asm import Program
+>>> from clankernel.rows import word_of
+>>> count = Program('set r0 3\nloop:\nadd r1 r0\nset r2 1\nsub r0 r2\nsome r0 loop\nstore r1 r3 32\ntrap 0')
+>>> first = Cell((0,) * 8, 0)
+>>> done, cell, memory, end = run_rows(first, memory_of(count.words), 100)
+>>> [done, cell.registers[:3], cell.place, memory[32], end]
+[15, (0, 6, 1), 7, 6, ('trap', 0)]
+>>> [run_rows(first, memory_of(count.words), 4)[0::3], run_rows(first, memory_of(()), 9)[0::3], wants(Cell((0, 5, 0, 0, 0, 0, 0, 0), 3), word_of(('load', 0, 1, 2)))]
+[(4, ('ticks',)), (0, ('fault', 'row', 0)), 7]
+>>> [does(first, word_of(('div', 0, 1)), None), does(first, word_of(('store', 0, 1, 40)), None)[2:], touches(first, word_of(('store', 0, 1, 40))), step(first, memory_of(((0, 49152 + 512),)))[0]]
+[('fault', 'nought', 0), (40, 0), (('w', 2), ('x', 0)), 'goes']
+""",
+    7: r"""
+>>> from clankernel.spaces import Spaces
+>>> home = Spaces('frames 4\ntasks 3\npage 1 0 rw 0 2\npage 1 1 r 0 2\npage 2 5 r 1 0')
+>>> [home.pages[0], len(home), (0, 3) in home, (0, 4) in home]
+[(1, 0, 2, 'rw'), 3, True, False]
+>>> home.mapped(1, (0, 2), 2, (4, 4), 6, 'rw').text.split('\n')[4:]
+['page 2 5 r 1 0', 'page 2 6 rw 1 0', 'page 2 7 r 1 1']
+>>> home.granted(1, (0, 1), 2, (0, 1), 0, 'r').text.split('\n')[2:]
+['page 1 1 r 0 2', 'page 2 0 r 0 2', 'page 2 5 r 2 0']
+>>> [home.unmapped(0, (2, 1), 'r', False).pages, home.mapped(2, (5, 1), 1, (0, 1), 0, 'r').pages, home.mapped(0, (2, 1), 1, (1, 1), 0, 'w').pages[1]]
+[((1, 0, 2, 'w'),), ((1, 1, 2, 'r'),), (1, 1, 2, 'rw')]
+""",
+    8: r"""
+>>> from clankernel.hot import block_pairs
+>>> from clankernel.trees import page_at, page_beneath, page_chain, page_holders, told_apart
+>>> [block_pairs((0, 2), (4, 4), 6), block_pairs((0, 4), (8, 2), 3), block_pairs((4, 1), (0, 16), 9), block_pairs((2, 2), (6, 2), 15)]
+[((0, 6), (1, 7)), ((2, 8), (3, 9)), ((4, 9),), ((2, 6), (3, 7))]
+>>> [page_at(home, 1, 0), page_at(home, 2, 0), page_chain(home, 2, 5), page_beneath(home, 0, 2), page_holders(home, 2)[2:]]
+[(2, 'rw'), None, ((2, 5), (1, 0), (0, 2)), ((1, 0), (1, 1), (2, 5)), ((1, 1, 'r'), (2, 5, 'r'))]
+>>> told_apart(Spaces('frames 1\ntasks 3\npage 1 0 r 0 0\npage 2 0 r 0 0'), Spaces('frames 1\ntasks 3\npage 1 0 r 0 0\npage 2 0 r 1 0'))
+('unmap', 1, 0, 'r')
+""",
+    9: r"""
+>>> from clankernel.tables import shows_tables, tables_of, walk
+>>> [tables_of(home, 1), tables_of(home, 2), tables_of(home, 0)]
+[(4, 0, 0, 0, 147, 145, 0, 0), (0, 4, 0, 0, 0, 145, 0, 0), (391, 0, 0, 0)]
+>>> [walk((4, 0, 0, 0, 147, 145, 0, 0), 17), walk((4, 0, 0, 0, 147, 145, 0, 0), 40), walk((391, 0, 0, 0), 63)]
+[(2, 1, 'r'), None, (3, 15, 'rwx')]
+>>> [shows_tables(home, 2, (0, 5, 0, 0, 9, 0, 145, 0, 0)), shows_tables(home, 2, (0, 4, 0, 0, 0, 147, 0, 0)), shows_tables(home, 1, (4, 0, 4, 0, 147, 145, 0, 0))]
+[True, False, False]
+""",
+    10: r"""
+>>> from clankernel.kept import kept, plain, shows_stale, writers
+>>> two = Spaces('frames 2\ntasks 2')
+>>> course = (('map', 0, (0, 1), 1, (3, 1), 0, 'rw'), ('write', 1, 48, 7), ('read', 0, 0), ('unmap', 0, (0, 1), 'rw', False), ('read', 1, 48))
+>>> [plain(two, course), writers(two, course), kept(two, course, ('given', 'own', 'window')), shows_stale(('given', 'own', 'window'), (two.text, course))]
+[(None, True, 7, None, None), (None, None, 1, None, None), (None, True, 7, None, 7), True]
+""",
+    11: r"""
+>>> from clankernel.rights import Rights
+>>> bare = Rights('tasks 3\ngate 1\ngate 2\nnext 0')
+>>> some = bare.first(0, 0, 'g0').first(1, 0, 'g1').minted(0, 0, 1, 7)
+>>> some.text.split('\n')[3:]
+['next 3', 'right 0 0 0 g0 sg - -', 'right 1 1 0 g1 sg - -', 'right 2 0 1 g0 sg 7 0']
+>>> more = some.handed(0, 1, 2, 5, 's', None)
+>>> [more.rows[3], more.dropped(0, 1).rows[2], more.taken_back(0, 0).next, len(more.taken_back(0, 0).rows), more.moved(2, 5, 4).rows[3][2]]
+[(3, 2, 5, 'g0', 's', 7, 2), (3, 2, 5, 'g0', 's', 7, 0), 4, 2, 4]
+""",
+    12: r"""
+>>> from clankernel.places import bared, right_beneath, right_chain, right_holders
+>>> [right_chain(more, 3), right_beneath(more, 0), right_holders(more, 'g0', 's'), right_holders(more, 'g0', 'g'), bared(more, 0)]
+[(3, 2, 0), (2, 3), (0, 2), (0,), ((2, 'g0'),)]
+""",
+}
+
+
+class ExamplesTest(unittest.TestCase):
+    def test_examples(self):
+        known = {}
+        for section, text in sorted(EXAMPLES.items()):
+            example = doctest.DocTestParser().get_doctest(text, known, f"section {section}", None, 0)
+            self.assertTrue(example.examples)
+            told = []
+            found = doctest.DocTestRunner().run(example, out=told.append, clear_globs=False)
+            self.assertEqual(found.failed, 0, "".join(told))
+            known = example.globs
+
+
+if __name__ == "__main__":
+    unittest.main()

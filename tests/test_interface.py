@@ -1,0 +1,169 @@
+"""The interface: names, the files that define them, arguments; and the language of the package."""
+
+import ast
+import importlib
+import inspect
+import pathlib
+import unittest
+
+PACKAGE = pathlib.Path(__file__).resolve().parent.parent / "clankernel"
+
+FUNCTIONS = {
+    "rows": {"row_of": "word", "word_of": "row", "row_text": "row", "is_placed": "row"},
+    "asm": {"text_of": "words", "moved": "words by"},
+    "cells": {"wants": "cell word", "touches": "cell word", "does": "cell word value", "memory_of": "words",
+              "step": "cell memory", "run_rows": "cell memory ticks"},
+    "hot": {"block_pairs": "block window spot"},
+    "trees": {"page_at": "spaces task page", "page_chain": "spaces task page", "page_beneath": "spaces task page",
+              "page_holders": "spaces frame", "told_apart": "one other", "shows_told_apart": "one other value"},
+    "tables": {"tables_of": "spaces task", "walk": "tables address", "shows_tables": "spaces task value"},
+    "kept": {"plain": "spaces course", "writers": "spaces course", "kept": "spaces course empties",
+             "stale": "empties", "shows_stale": "empties value"},
+    "places": {"right_at": "rights task place", "right_chain": "rights number", "right_beneath": "rights number",
+               "right_holders": "rights thing letter", "bared": "rights number", "after_deeds": "rights deeds"},
+}
+CLASSES = {
+    "asm": {"Program": {"__init__": "text", "__eq__": "other"}},
+    "cells": {"Cell": {"__init__": "registers place", "__eq__": "other", "with_place": "place",
+                       "with_register": "number word"}},
+    "spaces": {"Spaces": {
+        "__init__": "text", "__eq__": "other", "__len__": "", "__contains__": "value",
+        "mapped": "giver block taker window spot letters", "granted": "giver block taker window spot letters",
+        "unmapped": "task block letters own", "gone": "tasks"}},
+    "rights": {"Rights": {
+        "__init__": "text", "__eq__": "other", "first": "task place thing", "with_gate": "owner",
+        "copied": "task place to letters", "minted": "task place to badge",
+        "handed": "giver place taker to letters badge", "moved": "task place to", "dropped": "task place",
+        "taken_back": "task place", "gone": "tasks"}},
+    "waiting": {"Waits": {
+        "__init__": "text", "__eq__": "other", "__len__": "", "__contains__": "value", "state": "thread",
+        "owes": "thread", "senders": "gate"}},
+}
+BUILTINS = set("""len range enumerate zip min max sum abs sorted reversed int str bool bytes list tuple dict set
+    isinstance ord repr any all divmod pow type ValueError""".split())
+# Words of the language beyond this package's few: none of these kinds of nodes is needed.
+BARRED = (ast.GeneratorExp, ast.Set, ast.SetComp, ast.Global, ast.Nonlocal, ast.Yield, ast.YieldFrom, ast.Await,
+          ast.AsyncFunctionDef, ast.Lambda, ast.With, ast.NamedExpr, ast.Div, ast.Pow)
+
+
+def sources():
+    return [(path, path.read_text(encoding="utf-8")) for path in sorted(PACKAGE.glob("*.py"))]
+
+
+def names_of(call):
+    return [name for name in inspect.signature(call).parameters if name != "self"]
+
+
+def module(name):
+    return importlib.import_module(f"clankernel.{name}")
+
+
+class InterfaceTest(unittest.TestCase):
+    def test_functions_stand_in_their_files_with_their_arguments(self):
+        for name, functions in FUNCTIONS.items():
+            for function, arguments in functions.items():
+                found = getattr(module(name), function)
+                self.assertEqual(found.__module__, f"clankernel.{name}")
+                self.assertEqual(names_of(found), arguments.split(), function)
+
+    def test_classes_define_their_methods_themselves(self):
+        for name, classes in CLASSES.items():
+            for cls, methods in classes.items():
+                found = getattr(module(name), cls)
+                self.assertEqual(found.__module__, f"clankernel.{name}")
+                for method, arguments in methods.items():
+                    self.assertIn(method, vars(found))
+                    self.assertEqual(names_of(vars(found)[method]), arguments.split(), method)
+
+    def test_attributes_are_set_when_an_object_is_created(self):
+        told = {
+            "asm": ("Program", "# none", "text words names"),
+            "spaces": ("Spaces", "frames 1\ntasks 1", "text frames tasks pages"),
+            "rights": ("Rights", "tasks 1\nnext 0", "text tasks gates next rows"),
+            "waiting": ("Waits", "now 0\nthreads 1\ngates", "text now priorities owners"),
+        }
+        for name, (cls, text, attributes) in told.items():
+            made = getattr(module(name), cls)(text)
+            for attribute in attributes.split():
+                self.assertIn(attribute, vars(made))
+        cell = module("cells").Cell((0,) * 8, 3)
+        self.assertEqual((cell.registers, cell.place), ((0,) * 8, 3))
+
+    def test_arguments_by_name(self):
+        spaces = module("spaces").Spaces(text="frames 4\ntasks 2")
+        mapped = spaces.mapped(letters="rw", spot=0, window=(3, 1), taker=1, block=(0, 1), giver=0)
+        self.assertEqual(mapped.pages, ((1, 3, 0, "rw"),))
+        self.assertEqual(mapped.unmapped(own=True, letters="r", block=(3, 1), task=1).pages, ((1, 3, 0, "w"),))
+        self.assertEqual(module("asm").moved(by=2, words=((0, 1),)), ((2, 1),))
+        rights = module("rights").Rights("tasks 2\ngate 0\nnext 0").first(thing="g0", place=3, task=0)
+        handed = rights.handed(badge=None, letters="s", to=1, taker=1, place=3, giver=0)
+        self.assertEqual(handed.rows[1], (1, 1, 1, "g0", "s", None, 0))
+
+
+class LanguageTest(unittest.TestCase):
+    def test_sizes_and_signs(self):
+        for path, text in sources():
+            lines = text.split("\n")
+            self.assertLessEqual(len(lines), 399, path)
+            self.assertTrue(all(sign == "\n" or " " <= sign <= "~" for sign in text), path)
+            self.assertLessEqual(max(len(line) for line in lines), 120, path)
+
+    def test_functions_are_short_and_without_decorators(self):
+        for path, text in sources():
+            for node in ast.walk(ast.parse(text)):
+                if isinstance(node, ast.FunctionDef):
+                    self.assertLessEqual(node.end_lineno - node.lineno + 1, 40, (path, node.name))
+                if isinstance(node, (ast.FunctionDef, ast.ClassDef)):
+                    self.assertEqual(node.decorator_list, [], (path, node.name))
+
+    def test_nothing_of_the_language_that_is_not_needed(self):
+        for path, text in sources():
+            for node in ast.walk(ast.parse(text)):
+                self.assertNotIsInstance(node, BARRED, (path, getattr(node, "lineno", 0)))
+                self.assertFalse(isinstance(node, ast.Constant) and isinstance(node.value, (float, complex)), path)
+                if isinstance(node, ast.Constant) and isinstance(node.value, str):
+                    self.assertNotIn("%", node.value, path)
+
+    def test_imports_name_the_file_that_defines_the_name(self):
+        defined = {path.stem: set(_defined(ast.parse(text))) for path, text in sources()}
+        for path, text in sources():
+            for node in ast.walk(ast.parse(text)):
+                self.assertNotIsInstance(node, ast.Import, path)
+                if isinstance(node, ast.ImportFrom):
+                    package, _, name = node.module.partition(".")
+                    self.assertEqual((package, node.level), ("clankernel", 0), path)
+                    for alias in node.names:
+                        self.assertIn(alias.name, defined[name], path)
+                        self.assertIsNone(alias.asname, path)
+
+    def test_names_are_known_used_and_no_builtins(self):
+        for path, text in sources():
+            tree = ast.parse(text)
+            own = set(_defined(tree))
+            imported = {alias.name for node in tree.body if isinstance(node, ast.ImportFrom) for alias in node.names}
+            stored, loaded = set(), set()
+            for node in ast.walk(tree):
+                if isinstance(node, ast.Name):
+                    (loaded if isinstance(node.ctx, ast.Load) else stored).add(node.id)
+                if isinstance(node, ast.arg):
+                    stored.add(node.arg)
+                if isinstance(node, ast.ExceptHandler) and node.name:
+                    stored.add(node.name)
+            builtin = set(dir(__import__("builtins")))
+            self.assertEqual((stored | own) & builtin, set(), path)
+            self.assertEqual(stored & imported, set(), path)
+            self.assertEqual(loaded & builtin - BUILTINS, set(), path)
+            self.assertEqual(loaded - stored - own - imported - BUILTINS, set(), path)
+            self.assertEqual(imported - loaded, set(), path)
+
+
+def _defined(tree):
+    for node in tree.body:
+        if isinstance(node, (ast.FunctionDef, ast.ClassDef)):
+            yield node.name
+        if isinstance(node, ast.Assign):
+            yield node.targets[0].id
+
+
+if __name__ == "__main__":
+    unittest.main()
