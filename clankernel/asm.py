@@ -42,7 +42,7 @@ class Layout:
         if line.startswith("# "):
             return True
         words = line.split(" ")
-        if len(words) == 1 and line.endswith(":"):
+        if line.endswith(":"):
             return self.tell(line[:-1], self.counter)
         if words[0] == "at" and len(words) == 2:
             return self.go_on_at(number_in(words[1], 0, 255))

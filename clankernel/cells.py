@@ -30,8 +30,6 @@ class Cell:
 
 
 def wants(cell, word):
-    if not is_word(word):
-        raise BadWord(word)
     row = row_of(word)
     if _fault(cell, word, row) is not None or row[0] != "load":
         return None
@@ -39,8 +37,6 @@ def wants(cell, word):
 
 
 def touches(cell, word):
-    if not is_word(word):
-        raise BadWord(word)
     row = row_of(word)
     found = [("x", cell.place // 16)]
     if _fault(cell, word, row) is None and row[0] in ("load", "store"):
@@ -151,7 +147,7 @@ def _behind(cell, row, value):
 
 
 def _place_behind(cell, row):
-    """Where a row leads that changes no register."""
+    """Where a row leads that changes nothing but the place."""
     name = row[0]
     if name == "jump":
         return row[1]

@@ -8,8 +8,6 @@ BITS = {"r": 1, "w": 2, "x": 4}
 
 
 def tables_of(spaces, task):
-    if not spaces.has_task(task):
-        raise NoTask(task)
     directories = []
     entries = []
     for first in (0, 4, 8, 12):

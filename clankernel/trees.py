@@ -53,8 +53,6 @@ def shows_told_apart(one, other, value):
     _, task, page, letter = value
     if not one.has_task(task) or not is_within(page, 0, 15):
         return False
-    if type(letter) is not str or letter not in ("r", "w", "x"):
-        return False
     return letter in _letters_apart(one, other, (task, page))
 
 

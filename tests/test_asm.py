@@ -58,6 +58,11 @@ class ProgramTest(unittest.TestCase, Checks):
                   ((0, 24578), (1, 24578), (2, 24578)))
         self.same(self.words("word late", "name late 9"), ((0, 9),))
 
+    def test_bounds_of_numbers(self):
+        self.same(Program("name a 0\nname b 65535").names, (("a", 0), ("b", 65535)))
+        self.same(self.words("at 255", "space 1"), ((255, 0),))
+        self.same(self.words("at 0", "word 0"), ((0, 0),))
+
     def test_no_words(self):
         self.same(Program("# ").words, ())
         self.same(Program("at 5\nname a 1\nb:").words, ())

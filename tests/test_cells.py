@@ -14,7 +14,7 @@ COUNT = "set r0 3\nloop:\nadd r1 r0\nset r2 1\nsub r0 r2\nsome r0 loop\nstore r1
 RECKONED = (
     ("copy", 5, 9, 9), ("add", 65535, 1, 0), ("add", 65535, 65535, 65534), ("add", 1, 2, 3), ("sub", 0, 1, 65535),
     ("sub", 5, 5, 0), ("sub", 7, 2, 5), ("mul", 256, 256, 0), ("mul", 65535, 65535, 1), ("mul", 3, 4, 12),
-    ("div", 7, 2, 3), ("div", 65535, 1, 65535), ("div", 1, 65535, 0), ("rem", 7, 2, 1), ("rem", 8, 2, 0),
+    ("div", 0, 5, 0), ("rem", 0, 5, 0), ("div", 7, 2, 3), ("div", 65535, 1, 65535), ("div", 1, 65535, 0), ("rem", 7, 2, 1), ("rem", 8, 2, 0),
     ("rem", 1, 65535, 1), ("and", 12, 10, 8), ("or", 12, 10, 14), ("xor", 12, 10, 6), ("xor", 65535, 65535, 0),
     ("shl", 1, 15, 32768), ("shl", 1, 16, 0), ("shl", 3, 15, 32768), ("shl", 65535, 0, 65535), ("shl", 1, 65535, 0),
     ("shr", 32768, 15, 1), ("shr", 32768, 16, 0), ("shr", 65535, 0, 65535), ("shr", 7, 1, 3), ("shr", 65535, 65535, 0),
@@ -134,6 +134,8 @@ class DoesTest(unittest.TestCase, Checks):
         for before, word, fault in (
                 (cell(9), 0, ("row", 0)), (cell(9), 65535, ("row", 65535)), (cell(9), 12299, ("row", 12299)),
                 (cell(9), word_of(("div", 1, 2)), ("nought", 9)), (cell(0), word_of(("rem", 1, 2)), ("nought", 0)),
+                (cell(9, r1=5), word_of(("div", 1, 2)), ("nought", 9)),
+                (cell(8, r1=5), word_of(("rem", 1, 2)), ("nought", 8)),
                 (cell(9, r2=256), word_of(("load", 1, 2, 0)), ("beyond", 256)),
                 (cell(9, r2=193), word_of(("store", 1, 2, 63)), ("beyond", 256)),
                 (cell(9, r2=65535), word_of(("load", 1, 2, 0)), ("beyond", 65535)),

@@ -92,6 +92,8 @@ class TextTest(unittest.TestCase, Checks):
         self.wrong(6, text("right 4 0 0 g0 sg - -", "right 4 0 1 g0 sg - -"))
         self.wrong(6, text("right 4 0 0 g0 sg - -", "right 3 0 1 g0 sg - -"))
         self.wrong(6, text("right 4 0 0 g0 sg - -", "right 5 0 0 g1 sg - -"))
+        self.wrong(7, text("right 4 0 0 g0 sg - -", "right 6 0 1 g0 sg - -", "right 5 0 2 g0 sg - -"))
+        self.wrong(7, text("right 4 0 0 g0 sg - -", "right 6 0 1 g0 sg - -", "right 7 0 0 g0 sg - -"))
         self.wrong(5, "tasks 3\ngate 1\ngate 2\nnext 4\nright 4 0 0 g0 sg - -")
         self.assertEqual(len(Rights(text("right 9 0 0 g0 sg - -", "right 10 1 0 g0 sg - -")).rows), 2)
 

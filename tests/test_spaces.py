@@ -25,6 +25,7 @@ class Node:
 class Model:
     def __init__(self, frames, tasks):
         self.frames, self.tasks = frames, tasks
+        self.causes = []
         self.at = {(0, page): Node((0, page), page, "rwx", None) for page in range(frames)}
 
     def children(self, node):
@@ -42,6 +43,9 @@ class Model:
                 self.empty(child.place)
             del self.at[place]
 
+    def mark(self, cause, places):
+        self.causes += [(cause, place) for place in places]
+
     def give(self, moves, source, target, letters):
         node = self.at.get(source)
         if node is None or not node.letters & set(letters) or self.own(target) or source == target:
@@ -52,12 +56,18 @@ class Model:
         if not moves and there is not None and there.parent is node:
             there.letters |= given
             return
+        self.mark("window", [target])
+        if there is not None:
+            self.mark("window", [low.place for low in self.all_beneath(there)])
         self.empty(target)
         if source not in self.at:
             return
         if not moves:
             self.at[target] = Node(target, node.frame, given, node)
             return
+        self.mark("given", [source])
+        if given != node.letters:
+            self.mark("beneath", [low.place for low in self.all_beneath(node)])
         for low in [node] + self.all_beneath(node):
             low.letters &= given
         for low in list(self.at.values()):
@@ -77,8 +87,11 @@ class Model:
             hit = []
             for page in range(first, first + size):
                 if (task, page) in self.at:
-                    hit += self.all_beneath(self.at[(task, page)])
+                    below = self.all_beneath(self.at[(task, page)])
+                    self.mark("beneath", [low.place for low in below])
+                    hit += below
                     if own and not self.own((task, page)):
+                        self.mark("own", [(task, page)])
                         hit.append(self.at[(task, page)])
             for low in hit:
                 low.letters -= set(letters)
@@ -87,6 +100,10 @@ class Model:
             for place in list(self.at):
                 if place[0] in deed[1]:
                     self.empty(place)
+
+    def looks(self):
+        """Of each place that has a frame: frame and letters."""
+        return {place: (node.frame, set(node.letters)) for place, node in self.at.items()}
 
     def text(self):
         lines = [f"frames {self.frames}", f"tasks {self.tasks}"]
@@ -209,6 +226,10 @@ class TextTest(unittest.TestCase, Checks):
         self.wrong(3, "\n".join([HEAD, ring, "page 1 1 r 0 0", letters]))
         self.wrong(5, "\n".join([HEAD, "page 1 0 r 0 0", "page 1 1 r 0 0", letters, "page 1 3 rw 1 0"]))
         self.wrong(7, "\n".join([HEAD, ring, "page 1 1 r 0 0", letters, "page 1 3 r 2 9", "page"]))
+        for line in ("page 1 1 r 3 2", "page 1 1 r -1 2", "page 1 1 r 0 16", "page 1 16 r 0 2", "page 3 0 r 0 2"):
+            self.wrong(4, "\n".join([HEAD, "page 1 0 r 2 9", line]))
+        self.wrong(3, "\n".join([HEAD, "page 1 0 r 2 9", "page 1 1 r 0 15", "page 1 15 r 0 0"]))
+        self.assertEqual(len(Spaces("\n".join([HEAD, "page 1 1 r 1 15", "page 1 15 r 0 0"]))), 2)
 
 
 class DeedsTest(unittest.TestCase, Checks):

@@ -84,6 +84,7 @@ class TablesTest(unittest.TestCase, Checks):
         for task in (-1, 3, True, None, "1", (1,)):
             self.fails(NoTask, task, tables_of, self.home, task)
             self.fails(NoTask, task, shows_tables, self.home, task, (0, 0, 0, 0))
+            self.fails(NoTask, task, shows_tables, self.home, task, None)
 
     def test_shows_tables(self):
         for value in ((4, 0, 0, 0, 147, 145, 0, 0), (4, 0, 0, 0, 147, 145, 0, 0, 9),
@@ -95,6 +96,9 @@ class TablesTest(unittest.TestCase, Checks):
                                    [4, 0, 0, 0, 147, 145, 0, 0], (4, 0, 0, False, 147, 145, 0, 0),
                                    (391, 0, 0, 0), (4, 6, 0, 0, 147, 145, 0, 0, 0, 129)):
             self.assertIs(shows_tables(self.home, 1, value), False, value)
+        last = Spaces("frames 1\ntasks 2\npage 1 15 r 0 0")
+        self.assertIs(shows_tables(last, 1, (0, 0, 0, 4, 0, 0, 0, 129)), True)
+        self.assertIs(shows_tables(last, 1, (0, 0, 0, 0)), False)
         for value in ((391, 0, 0, 0), (4, 0, 0, 0, 135, 143, 151, 159)):
             self.assertIs(shows_tables(self.home, 0, value), True, value)
 

@@ -61,6 +61,7 @@ class TreesTest(unittest.TestCase, Checks):
     def test_page_holders(self):
         self.same(page_holders(self.home, 2), ((0, 2, "rwx"), (1, 0, "rw"), (1, 1, "r"), (2, 5, "r")))
         self.same(page_holders(self.home, 3), ((0, 3, "rwx"),))
+        self.same(page_holders(self.home, 0), ((0, 0, "rwx"),))
         crossed = Spaces("frames 4\ntasks 2\npage 0 4 r 0 3\npage 1 0 r 0 3")
         self.same(page_holders(crossed, 3), ((0, 3, "rwx"), (0, 4, "r"), (1, 0, "r")))
 
@@ -80,10 +81,14 @@ class ToldApartTest(unittest.TestCase, Checks):
         self.assertIs(shows_told_apart(FLAT, FLAT, ("same",)), True)
         self.assertIs(shows_told_apart(FLAT, DEEP, ("same",)), False)
         self.assertIs(shows_told_apart(FLAT, FLAT, ("unmap", 1, 0, "r")), False)
+        for value in (("other",), (None,), ("same", "same"), ()):
+            self.assertIs(shows_told_apart(FLAT, FLAT, value), False)
 
     def test_other_parents(self):
         self.same(told_apart(FLAT, DEEP), ("unmap", 1, 0, "r"))
         self.same(told_apart(DEEP, FLAT), ("unmap", 1, 0, "r"))
+        last = [Spaces(f"frames 1\ntasks 3\npage 2 3 x {above}\npage 2 15 x 0 0") for above in ("0 0", "2 15")]
+        self.same(told_apart(*last), ("unmap", 2, 15, "x"))
 
     def test_other_pages(self):
         for other in ANY_VALUES + (Spaces("frames 2\ntasks 3\npage 1 0 r 0 0\npage 2 0 r 0 0"),

@@ -98,7 +98,8 @@ class TextTest(unittest.TestCase, Checks):
                      "sends 0 0 0 0 0 0 0 0 ever 2 ever", "sends 1 2 0 0 0 0 0 0 ever 1 1", "sends 0 2 0 0 0 0 0 0 ever 2 0",
                      "sends 2 0 0 0 0 0 0 0 ever any 3"):
             self.right(line)
-        for line in ("sends", "sends 0", "sends 0 0 0 0 0 0 0 0 ever none", "sends 0 0 0 0 0 0 0 0 ever none 0 0",
+        self.assertEqual(Waits("now 100000\nthreads 0\ngates 0\nsends 0 0 0 0 0 0 0 70000 ever none 0").now, 100000)
+        for line in ("sends", "wends 0 0 none 0 0 0 0 0 ever none 0", "sends 0", "sends 0 0 0 0 0 0 0 0 ever none", "sends 0 0 0 0 0 0 0 0 ever none 0 0",
                      "sends 5 0 0 0 0 0 0 0 ever none 0", "sends 0 3 0 0 0 0 0 0 ever none 0",
                      "sends 0 -1 0 0 0 0 0 0 ever none 0", "sends 0 any 0 0 0 0 0 0 ever none 0",
                      "sends 0 00 0 0 0 0 0 0 ever none 0", "sends 0 0 65535 0 0 0 0 0 ever none 0",
