@@ -23,6 +23,11 @@ def is_word_tuple(value, many):
     return is_tuple_of(value, many) and all([is_word(word) for word in value])
 
 
+def is_badge(value):
+    """Whether any value is a badge that a message can have, None for none."""
+    return value is None or is_within(value, 0, 65534)
+
+
 def is_ascending(values):
     """Whether values that can be compared ascend, none of them twice."""
     return all([values[at - 1] < values[at] for at in range(1, len(values))])

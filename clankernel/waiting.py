@@ -199,6 +199,34 @@ class Account:
         return state == GONE or (state[0] == "receives" and state[1] in ("any", gate))
 
 
+def waits_text(now, priorities, owners, states, debts):
+    """The text of waits that stand so: a state for each thread, and of each that owes to which one."""
+    lines = [f"now {now}", _line_of("threads", priorities), _line_of("gates", owners)]
+    lines.extend([_state_line(thread, state) for thread, state in enumerate(states) if state != READY])
+    lines.extend([f"owes {thread} {debts[thread]}" for thread in sorted(debts)])
+    return "\n".join(lines)
+
+
+def _line_of(head, values):
+    return " ".join([head] + [str(value) for value in values])
+
+
+def _state_line(thread, state):
+    if state == GONE:
+        return f"gone {thread}"
+    if state[0] == "receives":
+        _, source, since, till = state
+        return _line_of("receives", (thread, source, since, _word_of(till, "ever")))
+    _, gate, badge, words, since, till, then, limit = state
+    wait = [since, _word_of(till, "ever"), _word_of(then, "none"), _word_of(limit, "ever")]
+    return _line_of("sends", [thread, gate, _word_of(badge, "none"), *words, *wait])
+
+
+def _word_of(value, none):
+    """A value as a text has it, with this word in the place of None."""
+    return none if value is None else value
+
+
 def _value_of(word):
     """The integer that a right word tells, None for none and ever, else the word."""
     if word in ("none", "ever"):

@@ -2,6 +2,7 @@
 
 from clankernel.cells import Cell
 from clankernel.asm import Program
+from clankernel.devices import Devices
 from clankernel.rights import Rights
 from clankernel.spaces import Spaces
 from clankernel.waiting import Waits
@@ -20,7 +21,7 @@ ANY_VALUES = (
     (), (1,), (1, 2), (True, 1), ("set", 0, 0), [], [1, 2], ["set", 0, 0], ((0, 1),), [(0, 1)],
     {}, {0: 1}, {"set": 1}, nested(30), [[[None]]],
     Cell((0,) * 8, 0), Program("# none"), Spaces("frames 1\ntasks 1"), Rights("tasks 1\nnext 0"),
-    Waits("now 0\nthreads 1\ngates"),
+    Waits("now 0\nthreads 1\ngates"), Devices("none"),
 )
 
 

@@ -84,6 +84,37 @@ EXAMPLES = {
 >>> [right_chain(more, 3), right_beneath(more, 0), right_holders(more, 'g0', 's'), right_holders(more, 'g0', 'g'), bared(more, 0)]
 [(3, 2, 0), (2, 3), (0, 2), (0,), ((2, 'g0'),)]
 """,
+    14: r"""
+>>> from clankernel.meeting import message
+>>> from clankernel.waiting import Waits
+>>> two = Waits('now 0\nthreads 4 4\ngates 1')
+>>> later, told = message(two, 0, 0, 7, (1, 2, 3, 4), 5, 'reply', None)
+>>> [told, later.state(0)[:2], later.text.split('\n')[3]]
+[(), ('sends', 0), 'sends 0 0 7 1 2 3 4 0 5 reply ever']
+>>> later, told = message(later, 1, None, None, (0, 0, 0, 0), 0, 'any', 0)
+>>> [told, later.state(0), later.owes(1)]
+[(('met', 'called', 0, 1, 0, 7, (1, 2, 3, 4)),), ('receives', 'reply', 0, None), 0]
+>>> later, told = message(later, 1, 'reply', None, (9, 9, 9, 9), 0, 'any', None)
+>>> [told[0][:4], later.state(1)]
+[('met', 'replied', 1, 0), ('receives', 'any', 0, None)]
+""",
+    18: r"""
+>>> from clankernel.faults import behind_answer, fault_of, fault_words, first_refused
+>>> held = ('rx', 'rw') + ('',) * 14
+>>> [first_refused(held, ((3, 'x'), (40, 'r'))), first_refused(held, ((3, 'x'), (20, 'r'))), first_refused(held, ((20, 'x'), (40, 'r')))]
+[('page', 'r', 40), None, ('page', 'x', 20)]
+>>> [fault_words(('page', 'w', 37), 5), fault_of((7, 9, 20, 0)), behind_answer(('trap', 9), (2, 100, 0, 0)), behind_answer(('trap', 9), (2, 256, 0, 0))]
+[(2, 37, 5, 0), (('trap', 9), 20), ('at', 100), ('rests',)]
+""",
+    19: r"""
+>>> from clankernel.devices import Devices, fed
+>>> devices = Devices('device 0 7\ndevice - 0')
+>>> later = devices.rang(0, 500).rang(1, 3).rang(0, 501)
+>>> [later.text, later.first_at((0, 2)), later.first_at((2,)), later.taken(0)[:2], later.taken(0)[2].text]
+['device 0 7 501 2\ndevice - 0 3 1', 0, None, ((8, 0, 501, 2), 7), 'device 0 7\ndevice - 0 3 1']
+>>> [fed(devices, ((0, 0, 500), (4, 1, 3), (4, 0, 501))) == later, later.bound(1, 2, 9).first_at((2,))]
+[True, 1]
+""",
 }
 
 

@@ -21,6 +21,15 @@ FUNCTIONS = {
              "stale": "empties", "shows_stale": "empties value"},
     "places": {"right_at": "rights task place", "right_chain": "rights number", "right_beneath": "rights number",
                "right_holders": "rights thing letter", "bared": "rights number", "after_deeds": "rights deeds"},
+    "meeting": {"message": "waits thread to badge words limit source wait", "rung": "waits gate badge words",
+                "ticked": "waits", "broken": "waits thread", "gone": "waits threads", "followed": "waits deeds"},
+    "items": {"items_in": "words", "item_words": "items", "copied": "source target start goal many",
+              "fitting": "sent received"},
+    "results": {"result_number": "word half", "result_word": "number"},
+    "ledger": {"ledger": "told", "call_pairs": "told"},
+    "faults": {"first_refused": "letters accesses", "fault_words": "fault place", "fault_of": "words",
+               "door_of": "fault", "behind_answer": "fault words"},
+    "devices": {"fed": "devices inputs"},
 }
 CLASSES = {
     "asm": {"Program": {"__init__": "text", "__eq__": "other"}},
@@ -38,6 +47,9 @@ CLASSES = {
     "waiting": {"Waits": {
         "__init__": "text", "__eq__": "other", "__len__": "", "__contains__": "value", "state": "thread",
         "owes": "thread", "senders": "gate"}},
+    "devices": {"Devices": {
+        "__init__": "text", "__eq__": "other", "__len__": "", "rang": "device word", "bound": "device gate badge",
+        "first_at": "gates", "taken": "device", "gone": "gates"}},
 }
 BUILTINS = set("""len range enumerate zip min max sum abs sorted reversed int str bool bytes list tuple dict set
     isinstance ord repr any all divmod pow type ValueError""".split())
@@ -81,6 +93,7 @@ class InterfaceTest(unittest.TestCase):
             "spaces": ("Spaces", "frames 1\ntasks 1", "text frames tasks pages"),
             "rights": ("Rights", "tasks 1\nnext 0", "text tasks gates next rows"),
             "waiting": ("Waits", "now 0\nthreads 1\ngates", "text now priorities owners"),
+            "devices": ("Devices", "none", "text"),
         }
         for name, (cls, text, attributes) in told.items():
             made = getattr(module(name), cls)(text)
@@ -98,6 +111,13 @@ class InterfaceTest(unittest.TestCase):
         rights = module("rights").Rights("tasks 2\ngate 0\nnext 0").first(thing="g0", place=3, task=0)
         handed = rights.handed(badge=None, letters="s", to=1, taker=1, place=3, giver=0)
         self.assertEqual(handed.rows[1], (1, 1, 1, "g0", "s", None, 0))
+        waits = module("waiting").Waits("now 0\nthreads 1 1\ngates 1")
+        later, told = module("meeting").message(wait=None, source="reply", limit=5, words=(1, 2, 3, 4), badge=7, to=0,
+                                                thread=0, waits=waits)
+        self.assertEqual((told, later.state(0)), ((), ("sends", 0, 7, (1, 2, 3, 4), 0, 5, "reply", None)))
+        memory = tuple(range(256))
+        self.assertEqual(module("items").copied(many=2, goal=9, start=3, target=memory, source=memory)[1][8:12], (8, 3, 4, 11))
+        self.assertEqual(module("devices").Devices(text="none").gone(gates=()).text, "none")
 
 
 class LanguageTest(unittest.TestCase):
