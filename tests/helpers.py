@@ -1,10 +1,14 @@
 """What the tests share: values of every kind, and how errors are looked at."""
 
-from clankernel.cells import Cell
+from clankernel.answers import Loads
 from clankernel.asm import Program
+from clankernel.cells import Cell
+from clankernel.clans import Clans
 from clankernel.devices import Devices
 from clankernel.rights import Rights
 from clankernel.spaces import Spaces
+from clankernel.systems import System
+from clankernel.turns import Turns
 from clankernel.waiting import Waits
 
 
@@ -21,7 +25,9 @@ ANY_VALUES = (
     (), (1,), (1, 2), (True, 1), ("set", 0, 0), [], [1, 2], ["set", 0, 0], ((0, 1),), [(0, 1)],
     {}, {0: 1}, {"set": 1}, nested(30), [[[None]]],
     Cell((0,) * 8, 0), Program("# none"), Spaces("frames 1\ntasks 1"), Rights("tasks 1\nnext 0"),
-    Waits("now 0\nthreads 1\ngates"), Devices("none"),
+    Waits("now 0\nthreads 1\ngates"), Devices("none"), Loads("job 1 0 1"),
+    Clans("clans 1\ntask 0 - none"), Turns("manner slices\nthread 0 0 1 1\nrow 0"),
+    System("frames 1\ntask 0 -\nthread 0 0 0 0 1 rests\nturns slices"),
 )
 
 

@@ -115,6 +115,51 @@ EXAMPLES = {
 >>> [fed(devices, ((0, 0, 500), (4, 1, 3), (4, 0, 501))) == later, later.bound(1, 2, 9).first_at((2,))]
 [True, 1]
 """,
+    20: r"""
+>>> from clankernel.turns import Turns, who_runs
+>>> three = Turns('manner slices\nthread 0 3 2 2\nthread 0 3 3 3\nthread 1 5 4 4\nrow 0 1')
+>>> [three.next, who_runs(three, 7), three.ready(2).next, three.ready(2).wait(2, 0).row, who_runs(three.ready(2).wait(2, 0), 4)]
+[0, (0, 0, 1, 1, 1, 0, 0), 2, (0, 1), (0, 0, 0, 0)]
+>>> served = three.rest(0).ready(2).call(2, 0)
+>>> [served.row, served.next, served.passed().threads[2], served.reply(0, False).row, served.reply(0, True).row, who_runs(served, 5)]
+[(1, 0), 0, (1, 5, 4, 3), (1, 2), (1, 2, 0), (0, 0, 0, 0, 0)]
+>>> table = Turns('manner table 0 2 1 1\nat 1\nthread 0 1 5 5\nthread 1 7 5 5\nrow 0 1')
+>>> [who_runs(table, 6), table.rest(1).next, who_runs(table.rest(1), 3)]
+[(0, 1, 0, 0, 1, 0), 0, (0, None, 0)]
+""",
+    21: r"""
+>>> from clankernel.lending import lent, payer, runs_again, shares
+>>> chain = Turns('manner slices\nthread 0 1 5 5\nthread 0 2 5 5\nthread 0 6 5 5\nthread 0 4 5 5\nrow 0 3\nwaits 1 0\ncalls 2 1')
+>>> [lent(chain, 0), lent(chain, 3), payer(chain, 1), payer(chain, 0), runs_again(chain, 0), runs_again(chain, 3), shares(chain, 3)]
+[(6, (0, 1, 2)), (4, (3,)), (2, (1, 2)), (0, (0,)), ('within', 0), ('never', (0,)), ((3, 3), (0, 0), (0, 0), (0, 0))]
+""",
+    22: r"""
+>>> from clankernel.answers import answer, Loads, play, priorities, shows_answer, shows_priorities
+>>> loads = Loads('job 5 7 2\njob 7 4 2\njob 20 1 3')
+>>> asks = ((0, 0), (0, 1), (0, 2), (5, 0), (7, 1), (10, 0))
+>>> [[answer(loads, job)[1] for job in (0, 1, 2)], play(loads, asks, 13)[0][4:7], play(loads, asks, 13)[1], shows_answer(loads, 2, ('within', 13, asks))]
+[[2, 4, 13], (2, 0, 0), (2, 4, 13, 2, 2, 2), True]
+>>> [shows_priorities(loads, (5, 7, 20), ('priorities', (2, 1, 0))), priorities(Loads('job 4 1 2\njob 4 0 3'), (4, 4))]
+[True, ('none', (0, 1))]
+""",
+    23: r"""
+>>> from clankernel.clans import Clans, beneath, clan, depth
+>>> house = Clans('clans 7\ntask 0 - border\ntask 1 0 border\ntask 2 0 none\ntask 4 1 border\ntask 5 1 none\ntask 6 4 none')
+>>> [house.tasks, house.chief(6), house.chief(0), clan(house, 4), beneath(house, 1), depth(house, 6), 3 in house]
+[(0, 1, 2, 4, 5, 6), 4, None, (4, 5), (4, 5, 6), 3, False]
+>>> less = house.killed(4)
+>>> [less.tasks, less.fresh, less.made(5, True).tasks, less.made(5, True).chief(7)]
+[(0, 1, 2, 5), 7, (0, 1, 2, 5, 7), 5]
+""",
+    24: r"""
+>>> from clankernel.ways import met_by, next_stop, passes, straight, way, way_sort
+>>> [straight(house, 4, 5), straight(house, 6, 4), straight(house, 6, 1), next_stop(house, 6, 2), next_stop(house, 2, 6), way(house, 6, 2), way(house, 2, 6)]
+[True, True, False, 4, 1, (4, 1, 2), (1, 4, 6)]
+>>> [way(house, 0, 6), way_sort(house, 2, 6), way_sort(house, 6, 2), way_sort(house, 0, 5), passes(house, 6, 2), passes(house.bordered(1, False), 6, 2)]
+[(1, 4, 6), 'inner', 'outer', 'inner', ('passes', (4, 1, 2)), ('barred', 1)]
+>>> met_by(house, 4)
+((0, 6), (1, 6), (2, 6), (5, 6), (6, 0), (6, 1), (6, 2), (6, 5))
+""",
 }
 
 

@@ -30,6 +30,14 @@ FUNCTIONS = {
     "faults": {"first_refused": "letters accesses", "fault_words": "fault place", "fault_of": "words",
                "door_of": "fault", "behind_answer": "fault words"},
     "devices": {"fed": "devices inputs"},
+    "turns": {"who_runs": "turns ticks"},
+    "lending": {"lent": "turns thread", "shows_lent": "turns thread value", "payer": "turns thread",
+                "runs_again": "turns thread", "shares": "turns ticks"},
+    "answers": {"play": "loads asks ticks", "answer": "loads job", "shows_answer": "loads job value",
+                "priorities": "loads within", "shows_priorities": "loads within value"},
+    "clans": {"clan": "clans task", "beneath": "clans task", "depth": "clans task"},
+    "ways": {"straight": "clans task other", "next_stop": "clans task other", "way": "clans task other",
+             "way_sort": "clans task other", "passes": "clans task other", "met_by": "clans stop"},
 }
 CLASSES = {
     "asm": {"Program": {"__init__": "text", "__eq__": "other"}},
@@ -50,6 +58,15 @@ CLASSES = {
     "devices": {"Devices": {
         "__init__": "text", "__eq__": "other", "__len__": "", "rang": "device word", "bound": "device gate badge",
         "first_at": "gates", "taken": "device", "gone": "gates"}},
+    "turns": {"Turns": {
+        "__init__": "text", "__eq__": "other", "passed": "", "ready": "thread", "rest": "thread", "wait": "thread other",
+        "call": "thread other", "reply": "thread stays", "give_way": "thread", "with_priority": "thread priority",
+        "gone": "threads"}},
+    "answers": {"Loads": {"__init__": "text", "__eq__": "other"}},
+    "clans": {"Clans": {
+        "__init__": "text", "__eq__": "other", "__len__": "", "__contains__": "value", "chief": "task",
+        "has_border": "task", "made": "chief border", "killed": "task", "bordered": "task border"}},
+    "systems": {"System": {"__init__": "text", "__eq__": "other", "with_inputs": "inputs"}},
 }
 BUILTINS = set("""len range enumerate zip min max sum abs sorted reversed int str bool bytes list tuple dict set
     isinstance ord repr any all divmod pow type ValueError""".split())
@@ -94,6 +111,11 @@ class InterfaceTest(unittest.TestCase):
             "rights": ("Rights", "tasks 1\nnext 0", "text tasks gates next rows"),
             "waiting": ("Waits", "now 0\nthreads 1\ngates", "text now priorities owners"),
             "devices": ("Devices", "none", "text"),
+            "turns": ("Turns", "manner slices\nthread 0 0 1 1\nrow", "text threads row waits calls next"),
+            "answers": ("Loads", "job 1 0 1", "text jobs"),
+            "clans": ("Clans", "clans 1\ntask 0 - none", "text fresh tasks"),
+            "systems": ("System", "frames 1\ntask 0 -\nthread 0 0 0 0 1 rests\nturns slices",
+                        "text spaces rights clans waits turns devices inputs tasks"),
         }
         for name, (cls, text, attributes) in told.items():
             made = getattr(module(name), cls)(text)
@@ -118,6 +140,12 @@ class InterfaceTest(unittest.TestCase):
         memory = tuple(range(256))
         self.assertEqual(module("items").copied(many=2, goal=9, start=3, target=memory, source=memory)[1][8:12], (8, 3, 4, 11))
         self.assertEqual(module("devices").Devices(text="none").gone(gates=()).text, "none")
+        turns = module("turns").Turns(text="manner slices\nthread 0 0 1 1\nthread 0 0 1 1\nrow 0")
+        self.assertEqual(turns.call(other=1, thread=0).reply(stays=True, thread=1).row, (0, 1))
+        clans = module("clans").Clans(text="clans 1\ntask 0 - none").made(border=True, chief=0)
+        self.assertEqual(module("ways").way(other=1, task=0, clans=clans), (1,))
+        loads = module("answers").Loads(text="job 2 0 1")
+        self.assertEqual(module("answers").play(ticks=2, asks=((0, 0),), loads=loads), ((0, None), (1,)))
 
 
 class LanguageTest(unittest.TestCase):
