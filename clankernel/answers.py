@@ -166,7 +166,8 @@ def _is_ask(loads, value):
 
 def _times_of(loads, job, asks):
     """The answer times of all right asks for one job, however long they take."""
-    ticks = MOST_TICKS + 1 + sum([loads.jobs[told][2] for _, told in asks])
+    # Behind the last tick with an ask nobody idles until all are done.
+    ticks = MOST_TICKS + sum([loads.jobs[told][2] for _, told in asks])
     _, answers = _played(loads, asks, ticks)
     return [answers[at] for at in range(len(asks)) if asks[at][1] == job]
 
@@ -187,11 +188,11 @@ def _played(loads, asks, ticks):
         asked = [job for _, job in ranked if open_asks[job]]
         rows.append(asked[0] if asked else None)
         if asked:
-            job = asked[0]
-            left[job] = left[job] - 1
-            if left[job] == 0:
-                left[job] = loads.jobs[job][2]
-                done = open_asks[job].pop(0)
+            first = asked[0]
+            left[first] = left[first] - 1
+            if left[first] == 0:
+                left[first] = loads.jobs[first][2]
+                done = open_asks[first].pop(0)
                 answers[done] = tick - asks[done][0] + 1
     return tuple(rows), tuple(answers)
 

@@ -1,6 +1,6 @@
 """Clans: which task made which, and who has a border gate."""
 
-from clankernel.checks import is_within, number_in, number_told
+from clankernel.checks import number_in, number_told
 from clankernel.errors import BadBorder, BadClans, Full, NoTask, Root, Spent
 
 MOST_TASKS = 6
@@ -72,7 +72,7 @@ class Clans:
         return Clans(_text_of(self.fresh, rows))
 
     def check_task(self, value):
-        if not is_within(value, 0, LAST_NUMBER) or value not in self.tasks:
+        if value not in self:
             raise NoTask(value)
 
     def tasks_beneath(self, task):
@@ -118,8 +118,8 @@ def task_row(line, fresh):
 
 def _stands_behind(row, rows):
     """Whether a row can stand behind these: task 0 first, then ascending, each chief ahead."""
-    if row[1] is None or not rows:
-        return row[1] is None and not rows
+    if not rows:
+        return row[1] is None
     return row[0] > rows[-1][0] and len(rows) < MOST_TASKS and row[1] in [ahead[0] for ahead in rows]
 
 

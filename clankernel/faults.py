@@ -11,7 +11,7 @@ CODES = {"beyond": 4, "row": 5, "nought": 6, "trap": 7}
 
 
 def first_refused(letters, accesses):
-    if not is_tuple_of(letters, 16) or not all([_is_page_letters(value) for value in letters]):
+    if not is_tuple_of(letters, 16) or not all([value == "" or is_letters(value) for value in letters]):
         raise BadLetters(letters)
     if not _is_accesses(accesses):
         raise BadAccesses(accesses)
@@ -55,10 +55,6 @@ def behind_answer(fault, words):
     if words[0] == 2 and is_address(words[1]):
         return ("at", words[1])
     return ("rests",)
-
-
-def _is_page_letters(value):
-    return is_letters(value) or (type(value) is str and value == "")
 
 
 def _is_accesses(value):

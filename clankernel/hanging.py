@@ -8,12 +8,11 @@ def chains_on(hangs, thread):
     of a chain hangs on the one ahead of it.
     """
     chains = [(thread,)]
-    reached = [thread]
     at = 0
     while at < len(chains):
         for other in hangs:
-            if hangs[other] == chains[at][-1] and other not in reached:
-                reached.append(other)
+            # Each thread hangs on one at the most, so only the first one can come again.
+            if hangs[other] == chains[at][-1] and other != thread:
                 chains.append((*chains[at], other))
         at = at + 1
     return chains

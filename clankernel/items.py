@@ -86,7 +86,7 @@ def _fits_behind(row, rows):
 
 def _row_of(words):
     """The row that four words tell, None if they tell none, or are fewer."""
-    if len(words) < 4 or not 1 <= words[0] <= 7:
+    if len(words) < 4 or words[0] >= len(KINDS):
         return None
     row = _parts_told(KINDS[words[0]], words[1], words[2], words[3])
     # Words that tell a row are just those that are told by it.
@@ -152,7 +152,7 @@ def _numbers_told(kind, parts):
 
 
 def _is_one_of(value, table):
-    return type(value) is str and value != "" and value in table
+    return value != "" and value in table
 
 
 def _block_word(block):

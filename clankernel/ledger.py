@@ -35,7 +35,7 @@ def call_pairs(told):
 
 def is_told(value):
     """Whether any value is a row that a deed of meeting can tell."""
-    if type(value) is not tuple or len(value) == 0 or type(value[0]) is not str:
+    if type(value) is not tuple or len(value) == 0:
         return False
     if value[0] == "met":
         return len(value) == 7 and _is_meeting(value)
@@ -43,12 +43,12 @@ def is_told(value):
         return len(value) == 2 and _is_thread(value[1])
     if value[0] not in ("late", "broken", "gone") or len(value) != 3:
         return False
-    return _is_thread(value[1]) and type(value[2]) is str and value[2] in ("send", "receive")
+    return _is_thread(value[1]) and value[2] in ("send", "receive")
 
 
 def _is_meeting(row):
     _, kind, sender, receiver, gate, badge, words = row
-    if type(kind) is not str or not _is_thread(receiver) or not is_word_tuple(words, 4):
+    if not _is_thread(receiver) or not is_word_tuple(words, 4):
         return False
     if kind == "device":
         return sender is None and _is_gate(gate) and is_badge(badge)

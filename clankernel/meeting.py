@@ -138,8 +138,8 @@ class Hall:
                 self.end_wait(thread, "gone")
         for thread in threads:
             self.states[thread] = GONE
-        self.debts = {thread: other for thread, other in self.debts.items()
-                      if thread not in threads and other not in threads}
+        # What was owed to others ended with their waits.
+        self.debts = {thread: other for thread, other in self.debts.items() if other not in threads}
 
     def check_thread(self, value):
         if not is_within(value, 0, len(self.states) - 1):

@@ -218,6 +218,9 @@ class AnswerTest(unittest.TestCase, Checks):
         self.assertIs(shows_answer(BUSY, 1, ("late", ((0, 0), (0, 1), (0, 2), (3, 0)))), False)
         self.assertIs(shows_answer(BUSY, 1, ("late", ((391, 1), (391, 2), (391, 0), (394, 0), (397, 0)))), False)
         self.assertIs(shows_answer(BUSY, 1, ("late", ((391, 0), (391, 1), (391, 2), (394, 0), (397, 0), (400, 0)))), True)
+        late = ((0, 0), (0, 1), (0, 2), (3, 0), (6, 0))
+        for value in (("within", late), ("Late", late), (None, late), ("late", late, 0), ["late", late], ("late", list(late)), ("late",)):
+            self.assertIs(shows_answer(BUSY, 1, value), False)
         for time in (9, 10, None):
             self.assertIs(shows_answer(BUSY, 1, ("within", time, ((0, 0), (0, 1), (0, 2), (3, 0), (6, 0)))), False)
         # Of the very job; and one that waits for its own elder ask.
@@ -232,6 +235,9 @@ class AnswerTest(unittest.TestCase, Checks):
         self.assertIs(shows_answer(long, 1, ("late", asks)), True)
         self.assertIs(shows_answer(long, 0, ("late", asks)), False)
         self.assertIs(shows_answer(long, 0, ("within", 99, asks)), True)
+        last = loads_of([(9, 0, 1), (9, 1, 1)])
+        self.assertIs(shows_answer(last, 0, ("within", 2, ((400, 0), (400, 1)))), True)
+        self.assertIs(shows_answer(last, 1, ("within", 1, ((0, 0), (400, 1)))), True)
 
 
 class PrioritiesTest(unittest.TestCase, Checks):
@@ -293,7 +299,7 @@ class PrioritiesTest(unittest.TestCase, Checks):
         bad = Loads("job 4 1 2\njob 4 0 3")
         self.assertIs(shows_priorities(bad, (4, 4), ("none", (0, 1))), True)
         for value in (("none", (1, 0)), ("none", (0,)), ("none", (1,)), ("none", ()), ("none", (0, 1, 1)), ("none", (0, 2)),
-                      ("none", (-1, 0)), ("none", (False, 1)), ("none", (0, True)), ("none", [0, 1]), ["none", (0, 1)], ("none", (0, 1), 0),
+                      ("none", (-1, 0)), ("None", (0, 1)), ("lot", (0, 1)), (None, (0, 1)), ("none", (False, 1)), ("none", (0, True)), ("none", [0, 1]), ["none", (0, 1)], ("none", (0, 1), 0),
                       ("none",), ("priorities", (0, 1)), ("priorities", (1, 0)), ("none", (0, "1")), ("none", 0), ("none", ((0,), 1))):
             self.assertIs(shows_priorities(bad, (4, 4), value), False, value)
         for value in ANY_VALUES:

@@ -39,7 +39,7 @@ WRONG_WORDS = (
     (7, 16, 0, 0), (7, 0, 1, 0), (7, 0, 0, 1),
 )
 WRONG_ROWS = (
-    (), ("string",), ("string", 0), ("string", 0, 1, 0), ["string", 0, 1], ("String", 0, 1), (1, 0, 1), (None, 0, 1),
+    (), ("string",), ("string", 0), ("string", 0, 1, 0), ["string", 0, 1], ("String", 0, 1), (1, 0, 1), (None, 0, 1), (None, 0), (None,), (False, 0),
     ("string", 256, 1), ("string", -1, 1), ("string", 0, 0), ("string", 0, 17), ("string", True, 1), ("string", 0, True),
     ("map", (0, 1), "r"), ("map", (0, 1), "r", 0, 0), ("map", (1, 2), "r", 0), ("map", (16, 1), "r", 0), ("map", [0, 1], "r", 0),
     ("map", 1, "r", 0), ("map", (0, 3), "r", 0), ("map", (0, 1), "", 0), ("map", (0, 1), "wr", 0), ("map", (0, 1), 1, 0),

@@ -43,7 +43,8 @@ WRONG = (
     ("met", "device", None, 1, 3, 7, W + (1,)),
     ("late",), ("late", 0), ("late", 0, None), ("late", 0, "Send"), ("late", 8, "send"), ("late", -1, "send"), ("late", True, "send"),
     ("late", 0, "send", 0), ("late", 0, ["send"]), ("broken", 0), ("gone", 0), ("gone", 0, "lost"), ("lost",), ("lost", 8), ("lost", True),
-    ("lost", 0, "receive"), ("lost", 0, None), ("done", 0), (None, 0), (0,), "lost", None, 0, ({}, 0), ([], 0, "send"),
+    ("lost", 0, "receive"), ("lost", 0, None), ("done", 0),
+    ("done", 0, "send"), ("ready", 0, "receive"), ("sent", 0, 1, 3, 7, W), (None, 0), (0,), "lost", None, 0, ({}, 0), ([], 0, "send"),
 )
 
 

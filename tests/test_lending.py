@@ -90,6 +90,8 @@ class LentTest(unittest.TestCase, Checks):
         # Round a ring a chain may go on to the next one of the greatest priority.
         self.assertIs(shows_lent(RING, 2, (6, (2,))), True)
         self.assertIs(shows_lent(RING, 2, (6, (2, 1))), False)
+        self.assertIs(shows_lent(RING, 1, (6, (1, 3, 2))), True)
+        self.assertIs(shows_lent(RING, 1, (6, (1, 3, 2, 1, 3, 2))), False)
 
     def test_beside_who_runs(self):
         for seed in range(200):

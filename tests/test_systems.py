@@ -214,14 +214,14 @@ class WrongTest(unittest.TestCase, Checks):
 
     def test_words(self):
         self.line_wrong(22, "words 4" + " 0" * 16, "words 0" + " 0" * 15, "words 0" + " 0" * 17, "words 0" + " 0" * 15 + " 65536", "words 00" + " 0" * 16,
-                        "words 0" + " 0" * 15 + " -1", "words 0" + " 00" * 16, "words -1" + " 0" * 16, "word 0" + " 0" * 16, "words", "page 2 16 r 1 0")
+                        "words 0" + " 0" * 15 + " -1", "words 0 65536" + " 0" * 15, "words 0 -" + " 0" * 15, "words 0" + " 00" * 16, "words -1" + " 0" * 16, "word 0" + " 0" * 16, "words", "page 2 16 r 1 0")
         self.line_wrong(23, "words 0" + SIXTEEN, "words 4" + SIXTEEN)
         self.wrong(24, with_more(24, "words 3" + SIXTEEN))
         self.wrong(24, with_more(24, "words 2" + SIXTEEN))
         self.assertEqual(System(with_line(22, "words 2" + SIXTEEN)).text, with_line(22, "words 2" + SIXTEEN))
 
     def test_devices(self):
-        self.line_wrong(24, "device 3 0", "device -1 0", "device 2 65535", "device - 1", "device 2", "device 2 0 5 1", "device 2 0 0", "none", "device 02 0",
+        self.line_wrong(24, "device 3 0", "device -1 0", "device 2 65535", "device - 1", "device 2", "device 2 0 5 1", "device 2 0 0 1", "device 2 0 0", "none", "device 02 0",
                         "devices 2 0", "words 3" + SIXTEEN)
         self.line_wrong(25, "device 3 0", "device 0")
         self.wrong(28, with_more(26, "device 0 0", "device - 0", "device 0 0"))
