@@ -49,6 +49,14 @@ def number_of(text):
     return int(text)
 
 
+def integer_of(text):
+    """The integer that Python writes so, also one below 0, None if there is none."""
+    if text.startswith("-") and text != "-0":
+        number = number_of(text[1:])
+        return None if number is None else -number
+    return number_of(text)
+
+
 def number_in(text, low, high):
     """The integer from low to high that Python writes so, None if there is none."""
     number = number_of(text)
@@ -66,3 +74,8 @@ def number_told(lines, at, head, bounds):
     if len(words) != 2 or words[0] != head:
         return None
     return number_in(words[1], bounds[0], bounds[1])
+
+
+def line_of(head, values):
+    """The line of a text with this first word, and these values behind it."""
+    return " ".join([head] + [str(value) for value in values])

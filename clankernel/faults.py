@@ -34,7 +34,7 @@ def fault_of(words):
         raise BadWords(words)
     code, number, place, rest = words
     fault = _fault_with(code, number)
-    if not _is_fault(fault) or not is_address(place) or not _comes_at(fault, place) or rest != 0:
+    if not is_fault(fault) or not is_address(place) or not _comes_at(fault, place) or rest != 0:
         raise BadWords(words)
     return (fault, place)
 
@@ -68,11 +68,11 @@ def _is_access(value, letters):
 
 
 def _check_fault(value):
-    if not _is_fault(value):
+    if not is_fault(value):
         raise BadFault(value)
 
 
-def _is_fault(value):
+def is_fault(value):
     """Whether any value is a fault."""
     if is_tuple_of(value, 3):
         return value[0] == "page" and value[1] in LETTERS and is_address(value[2])

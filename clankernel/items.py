@@ -98,13 +98,13 @@ def _parts_told(kind, one, two, three):
     if kind in ("string", "buffer"):
         return (kind, one, two)
     if kind in ("map", "grant"):
-        return (kind, _block_of(one), PAGE_LETTERS[two % 8], three)
+        return (kind, block_of(one), PAGE_LETTERS[two % 8], three)
     if kind == "right":
         return (kind, one, RIGHT_LETTERS[two % 8], None if three == NO_BADGE else three)
-    return (kind, _block_of(one) if kind == "window" else one)
+    return (kind, block_of(one) if kind == "window" else one)
 
 
-def _block_of(word):
+def block_of(word):
     return (word // 32, word % 32)
 
 

@@ -46,7 +46,7 @@ def runs_again(turns, thread):
     play = Play(turns)
     ticks = 0
     while play.chosen() != thread:
-        play.tick()
+        play.tick_on()
         ticks = ticks + 1
     return ("within", ticks)
 
@@ -55,7 +55,7 @@ def shares(turns, ticks):
     if not is_within(ticks, 0, MOST_TICKS):
         raise BadTicks(ticks)
     play = Play(turns)
-    ran = [play.tick() for _ in range(ticks)]
+    ran = [play.tick_on() for _ in range(ticks)]
     paid = [None if thread is None else play.payers[thread] for thread in ran]
     return tuple([(ran.count(thread), paid.count(thread)) for thread in range(len(turns.threads))])
 

@@ -4,7 +4,7 @@ from clankernel.checks import is_badge, is_lot, is_within, is_word_tuple
 from clankernel.errors import (
     BadBadge, BadDeeds, BadLimit, BadLot, BadSource, BadTo, BadWords, CoreError, NoGate, NoReply, NoThread,
     NotReady, NotWaited, NotWaiting)
-from clankernel.waiting import GONE, READY, Waits, waits_text
+from clankernel.waiting import GONE, READY, Waits, receives_from, waits_text
 
 # How many values each deed takes that is followed.
 DEEDS = {"message": 7, "rung": 3, "ticked": 0, "broken": 1, "gone": 1}
@@ -25,7 +25,7 @@ def rung(waits, gate, badge, words):
 
 def ticked(waits):
     hall = Hall(waits)
-    hall.tick()
+    hall.tick_on()
     return hall.outcome()
 
 
@@ -69,7 +69,7 @@ def _follow(hall, deed):
         case "rung":
             hall.ring(*values)
         case "ticked":
-            hall.tick()
+            hall.tick_on()
         case "broken":
             hall.break_off(*values)
         case _:
@@ -114,9 +114,9 @@ class Hall:
             raise NotWaited(gate)
         self.meet(("device", None, self.owners[gate], gate, badge, words))
 
-    def tick(self):
+    def tick_on(self):
         self.now = self.now + 1
-        late = [thread for thread, state in enumerate(self.states) if _till(state) == self.now]
+        late = [thread for thread, state in enumerate(self.states) if till_of(state) == self.now]
         for thread in late:
             self.end_wait(thread, "late")
 
@@ -170,8 +170,7 @@ class Hall:
 
     def takes(self, gate):
         """Whether the owner of a gate receives from it, or from any."""
-        state = self.states[self.owners[gate]]
-        return state[0] == "receives" and state[1] in ("any", gate)
+        return receives_from(self.states[self.owners[gate]], gate)
 
     def till_behind(self, limit):
         """The tick at which a wait with this limit ends that begins now."""
@@ -251,7 +250,7 @@ def _check_carried(badge, words):
         raise BadWords(words)
 
 
-def _till(state):
+def till_of(state):
     """The tick at which a wait in this state ends, None if it never does."""
     if state[0] == "sends":
         return state[5]

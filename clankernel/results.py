@@ -19,6 +19,13 @@ RESULTS = (
     None,
     ("refused", None),
 )
+# Those that calls themselves tell.
+DONE = 0
+NO_RIGHT = 8
+BARRED = 9
+CUT = 10
+BAD = 11
+REFUSED = 13
 
 
 def result_number(word, half):

@@ -18,6 +18,12 @@ LAST_INPUT = 400
 
 
 class System:
+    """Besides its worlds: what a kernel begins with.
+
+    Of each thread its place, and its doors (pager, handler); of each task that has one its
+    border gate; of each frame its words.
+    """
+
     def __init__(self, text):
         if type(text) is not str:
             raise BadSystem(0)
@@ -40,6 +46,10 @@ class System:
         self.devices = Devices(plan.text_of_devices())
         self.inputs = tuple(plan.inputs)
         self.tasks = tuple([thread[0] for thread in plan.threads])
+        self.places = tuple(plan.places)
+        self.door_pairs = tuple([plan.pairs.get(thread, (None, None)) for thread in range(len(self.tasks))])
+        self.border_gates = plan.borders
+        self.frame_words = tuple([plan.frame_words.get(frame, (0,) * 16) for frame in range(plan.frames)])
 
     def __eq__(self, other):
         return isinstance(other, System) and self.text == other.text
@@ -76,8 +86,11 @@ class Plan:
         self.chiefs = []
         self.threads = []
         self.owners = []
-        # The number in the last line of each kind that may leave numbers out.
-        self.last = {"border": -1, "doors": -1, "words": -1}
+        # Of each thread its place; by their numbers, what lines border, doors, words tell.
+        self.places = []
+        self.borders = {}
+        self.pairs = {}
+        self.frame_words = {}
         self.right_rows = []
         self.pages = []
         self.inputs = []
@@ -154,6 +167,7 @@ class Plan:
         if None in (task, place, priority, whole):
             return False
         self.threads.append((task, priority, whole, words[6]))
+        self.places.append(place)
         return True
 
     def take_gate(self, words):
@@ -171,12 +185,13 @@ class Plan:
         task, gate = self.task_told(words[1]), number_in(words[2], 0, len(self.owners) - 1)
         if task is None or gate is None or self.threads[self.owners[gate]][0] != task:
             return False
-        return self.goes_on("border", task)
+        return tell_next(self.borders, task, gate)
 
     def take_doors(self, words):
         if len(words) != 4 or not all([word == "-" or number_in(word, 0, 15) is not None for word in words[2:]]):
             return False
-        return self.goes_on("doors", self.thread_told(words[1]))
+        pair = (number_in(words[2], 0, 15), number_in(words[3], 0, 15))
+        return tell_next(self.pairs, self.thread_told(words[1]), pair)
 
     def take_right(self, line):
         row = right_row(line, all_things(len(self.chiefs), len(self.owners)), len(self.chiefs))
@@ -195,9 +210,10 @@ class Plan:
         return True
 
     def take_words(self, words):
-        if len(words) != 18 or None in [number_in(word, 0, 65535) for word in words[2:]]:
+        told = tuple([number_in(word, 0, 65535) for word in words[2:]])
+        if len(told) != 16 or None in told:
             return False
-        return self.goes_on("words", number_in(words[1], 0, self.frames - 1))
+        return tell_next(self.frame_words, number_in(words[1], 0, self.frames - 1), told)
 
     def take_device(self, line):
         row = device_row(line)
@@ -221,13 +237,6 @@ class Plan:
     def thread_told(self, word):
         return number_in(word, 0, len(self.threads) - 1)
 
-    def goes_on(self, kind, number):
-        """Whether a line with this number, None for none, ascends among those of its kind."""
-        if number is None or number <= self.last[kind]:
-            return False
-        self.last[kind] = number
-        return True
-
     def is_beneath(self, task, other):
         """Whether a task is beneath another one."""
         above = self.chiefs[task]
@@ -245,10 +254,9 @@ class Plan:
         return "\n".join([*lines, f"next {fresh}", *self.lines["right"]])
 
     def text_of_clans(self):
-        bordered = [self.task_told(line.split(" ")[1]) for line in self.lines["border"]]
         lines = [f"clans {len(self.chiefs)}"]
         for task, line in enumerate(self.lines["task"]):
-            word = "border" if task in bordered else "none"
+            word = "border" if task in self.borders else "none"
             lines.append(f"{line} {word}")
         return "\n".join(lines)
 
@@ -266,3 +274,11 @@ class Plan:
 
     def text_of_devices(self):
         return "\n".join(self.lines["device"]) if self.lines["device"] else "none"
+
+
+def tell_next(told, number, value):
+    """Tell this of a number; whether there is one, which ascends behind all that were told."""
+    if number is None or any([number <= ahead for ahead in told]):
+        return False
+    told[number] = value
+    return True

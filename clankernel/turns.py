@@ -1,6 +1,6 @@
 """Turns: who runs in the next tick, and the deeds that change it."""
 
-from clankernel.checks import is_lot, is_within, number_in, number_told
+from clankernel.checks import is_lot, is_within, line_of, number_in, number_told
 from clankernel.errors import (
     BadPriority, BadThreads, BadTicks, BadTruth, BadTurns, IsReady, NoCaller, NoThread, NotReady, NotResting,
     Same, Taken)
@@ -39,7 +39,7 @@ class Turns:
 
     def passed(self):
         play = Play(self)
-        play.tick()
+        play.tick_on()
         return self.alike(play.row, self.links, [(*thread[:3], left) for thread, left in zip(self.threads, play.left)],
                           play.at)
 
@@ -144,8 +144,8 @@ class Turns:
         lines = self.text.split("\n")[:1]
         if self.shifts:
             lines.append(f"at {at}")
-        lines.extend([_line_of("thread", told) for told in threads])
-        lines.append(_line_of("row", row))
+        lines.extend([line_of("thread", told) for told in threads])
+        lines.append(line_of("row", row))
         lines.extend([f"{links[thread][0]} {thread} {links[thread][1]}" for thread in sorted(links)])
         return Turns("\n".join(lines))
 
@@ -154,7 +154,7 @@ def who_runs(turns, ticks):
     if not is_within(ticks, 0, MOST_TICKS):
         raise BadTicks(ticks)
     play = Play(turns)
-    return tuple([play.tick() for _ in range(ticks)])
+    return tuple([play.tick_on() for _ in range(ticks)])
 
 
 class Play:
@@ -182,7 +182,7 @@ class Play:
                 best = thread
         return best
 
-    def tick(self):
+    def tick_on(self):
         """One tick goes by: who ran in it, None for nobody."""
         thread = self.chosen()
         if self.round_tasks:
@@ -297,7 +297,3 @@ def shifts_told(words):
 
 def _linked(links, word):
     return tuple([(thread, links[thread][1]) for thread in links if links[thread][0] == word])
-
-
-def _line_of(head, values):
-    return " ".join([head] + [str(value) for value in values])

@@ -1,6 +1,6 @@
 """Waits: which threads wait, for what, since when, and who owes whom a reply."""
 
-from clankernel.checks import is_within, number_in, number_of, number_told
+from clankernel.checks import is_within, line_of, number_in, number_of, number_told
 from clankernel.errors import BadWaits, NoGate, NoThread
 
 READY = ("ready",)
@@ -49,6 +49,13 @@ class Waits:
             raise NoThread(thread)
         return self.debts.get(thread)
 
+    def debtor_of(self, thread):
+        """Who owes this thread a reply, None without."""
+        for debtor in self.debts:
+            if self.debts[debtor] == thread:
+                return debtor
+        return None
+
     def senders(self, gate):
         if not is_within(gate, 0, len(self.owners) - 1):
             raise NoGate(gate)
@@ -61,6 +68,10 @@ class Waits:
     def has_thread(self, value):
         """Whether any value is the number of a thread."""
         return is_within(value, 0, len(self.priorities) - 1)
+
+    def is_open(self, gate):
+        """Whether the owner of a gate receives from it, or from any."""
+        return receives_from(self.states[self.owners[gate]], gate)
 
 
 class Account:
@@ -196,19 +207,20 @@ class Account:
 
     def takes_from(self, state, gate):
         """Whether the owner of a gate in this state leaves nobody sending over it."""
-        return state == GONE or (state[0] == "receives" and state[1] in ("any", gate))
+        return state == GONE or receives_from(state, gate)
+
+
+def receives_from(state, gate):
+    """Whether the owner of a gate, in this state, receives from it, or from any."""
+    return state[0] == "receives" and state[1] in ("any", gate)
 
 
 def waits_text(now, priorities, owners, states, debts):
     """The text of waits that stand so: a state for each thread, and of each that owes to which one."""
-    lines = [f"now {now}", _line_of("threads", priorities), _line_of("gates", owners)]
+    lines = [f"now {now}", line_of("threads", priorities), line_of("gates", owners)]
     lines.extend([_state_line(thread, state) for thread, state in enumerate(states) if state != READY])
     lines.extend([f"owes {thread} {debts[thread]}" for thread in sorted(debts)])
     return "\n".join(lines)
-
-
-def _line_of(head, values):
-    return " ".join([head] + [str(value) for value in values])
 
 
 def _state_line(thread, state):
@@ -216,10 +228,10 @@ def _state_line(thread, state):
         return f"gone {thread}"
     if state[0] == "receives":
         _, source, since, till = state
-        return _line_of("receives", (thread, source, since, _word_of(till, "ever")))
+        return line_of("receives", (thread, source, since, _word_of(till, "ever")))
     _, gate, badge, words, since, till, then, limit = state
     wait = [since, _word_of(till, "ever"), _word_of(then, "none"), _word_of(limit, "ever")]
-    return _line_of("sends", [thread, gate, _word_of(badge, "none"), *words, *wait])
+    return line_of("sends", [thread, gate, _word_of(badge, "none"), *words, *wait])
 
 
 def _word_of(value, none):

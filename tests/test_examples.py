@@ -160,6 +160,38 @@ EXAMPLES = {
 >>> met_by(house, 4)
 ((0, 6), (1, 6), (2, 6), (5, 6), (6, 0), (6, 1), (6, 2), (6, 5))
 """,
+    31: r"""
+>>> from clankernel.asm import Program
+>>> from clankernel.cells import memory_of
+>>> from clankernel.paged import carried, Paged
+>>> start = memory_of(Program('load r0 r1 20\nstore r0 r1 40\ntrap 0\nat 20\nword 7').words)
+>>> end, brought, paged = carried(start, 2, 'turn', 9)
+>>> [end, brought, paged.memory[40], paged.store[40], paged.frames, paged.written]
+[('trap', 0), ((0, 0, 0), (0, 1, 1), (1, 2, 0), (1, 0, 1)), 7, 0, (2, 0), (2,)]
+>>> [carried(start, 1, 'turn', 9)[0], carried(start, 3, 'used', 9)[1], Paged(start, 1).next_row()[0]]
+[('stuck',), ((0, 0, 0), (0, 1, 1), (1, 2, 2)), ('wants', 0)]
+""",
+    32: r"""
+>>> from clankernel.servers import served
+>>> [served('counter', ((5, (1, 3, 0, 0)), (None, (1, 65535, 0, 0)), (6, (2, 9, 9, 9)), (6, (7, 0, 0, 0))))[at] for at in (0, 1, 2, 3)]
+[(0, 0, 3, 1), (0, 3, 2, 2), (0, 2, 2, 2), (1, 0, 0, 0)]
+>>> served('line', ((3, (1, 7, 8, 9)), (None, (1, 4, 4, 4)), (2, (2, 0, 0, 0)), (2, (2, 0, 0, 0)), (2, (2, 0, 0, 0))))
+((0, 1, 0, 0), (0, 2, 0, 0), (3, 7, 8, 9), (65535, 4, 4, 4), (65534, 0, 0, 0))
+>>> served('names', ((0, (1, 5, 50, 0)), (1, (2, 5, 0, 0)), (1, (1, 5, 51, 0)), (0, (2, 5, 0, 0)), (0, (3, 5, 0, 0)), (0, (2, 5, 0, 0)), (0, (2, 0, 0, 0))))
+((0, 0, 0, 0), (0, 50, 0, 0), (0, 0, 0, 0), (0, 51, 0, 0), (0, 0, 0, 0), (3, 0, 0, 0), (1, 0, 0, 0))
+""",
+    35: r"""
+>>> from clankernel.clans import Clans
+>>> from clankernel.ever import ever, helpers, reach, shows_ever
+>>> from clankernel.rights import Rights
+>>> from clankernel.spaces import Spaces
+>>> flat, bare_spaces = Clans('clans 3\ntask 0 - none\ntask 1 0 none\ntask 2 0 none'), Spaces('frames 1\ntasks 3')
+>>> some = Rights('tasks 3\ngate 1\ngate 2\nnext 2\nright 0 0 0 g0 sg - -\nright 1 1 0 g1 sg - -')
+>>> [ever(some, flat, bare_spaces, (0, 1, 2), 0, 'g1', 's')[0], shows_ever(some, flat, bare_spaces, (0, 1, 2), 0, 'g1', 's', ('deeds', (('hand', 1, 0, 'g1', 's'),)))]
+['deeds', True]
+>>> [ever(some, flat, bare_spaces, (0, 2), 0, 'g1', 's')[0], helpers(some, flat, bare_spaces, (0, 1, 2), 0, 'g1', 's'), reach(some, flat, bare_spaces, (0, 1, 2))[2][0]]
+['never', (0, 1), (('g0', 'sg'), ('g1', 'sg'))]
+""",
 }
 
 

@@ -38,6 +38,20 @@ FUNCTIONS = {
     "clans": {"clan": "clans task", "beneath": "clans task", "depth": "clans task"},
     "ways": {"straight": "clans task other", "next_stop": "clans task other", "way": "clans task other",
              "way_sort": "clans task other", "passes": "clans task other", "met_by": "clans stop"},
+    "kills": {"goes": "kernel task", "pointing": "kernel tasks"},
+    "traces": {"words_to": "events thread", "told_rows": "events"},
+    "images": {"image": "kernel", "from_image": "text"},
+    "paged": {"carried": "memory frames way rows"},
+    "servers": {"server": "name", "served": "name calls"},
+    "lots": {"stuck": "waits roads", "freed": "waits roads thread", "shows_freed": "waits roads thread value",
+             "least_stuck": "waits roads", "shows_ring": "waits roads value", "cut_stuck": "waits roads some"},
+    "levels": {"levels": "waits habits", "shows_levels": "waits habits value", "longest": "waits habits thread"},
+    "ever": {"ever": "rights clans spaces free task thing letters",
+             "shows_ever": "rights clans spaces free task thing letters value",
+             "reach": "rights clans spaces free", "helpers": "rights clans spaces free task thing letters"},
+    "heard": {"ways_between": "rights clans spaces by_table one other", "heard": "rights clans spaces by_table one other",
+              "shows_heard": "rights clans spaces by_table one other value"},
+    "journals": {"journal": "kernel", "read_journal": "text"},
 }
 CLASSES = {
     "asm": {"Program": {"__init__": "text", "__eq__": "other"}},
@@ -67,12 +81,18 @@ CLASSES = {
         "__init__": "text", "__eq__": "other", "__len__": "", "__contains__": "value", "chief": "task",
         "has_border": "task", "made": "chief border", "killed": "task", "bordered": "task border"}},
     "systems": {"System": {"__init__": "text", "__eq__": "other", "with_inputs": "inputs"}},
+    "kernel": {"Kernel": {
+        "__init__": "system", "__eq__": "other", "cell": "thread", "state": "thread", "doors": "thread",
+        "passing": "thread", "word": "frame at", "read": "task address", "run": "ticks", "tell": "device word",
+        "undo": "", "redo": "", "trial": "", "keep": "", "tried": "look keep", "copy": ""}},
+    "paged": {"Paged": {"__init__": "memory frames", "__eq__": "other", "next_row": "", "brought": "page frame"}},
+    "desk": {"Desk": {"__init__": "text", "say": "line"}},
 }
 BUILTINS = set("""len range enumerate zip min max sum abs sorted reversed int str bool bytes list tuple dict set
     isinstance ord repr any all divmod pow type ValueError""".split())
 # Words of the language beyond this package's few: none of these kinds of nodes is needed.
 BARRED = (ast.GeneratorExp, ast.Set, ast.SetComp, ast.Global, ast.Nonlocal, ast.Yield, ast.YieldFrom, ast.Await,
-          ast.AsyncFunctionDef, ast.Lambda, ast.With, ast.NamedExpr, ast.Div, ast.Pow)
+          ast.AsyncFunctionDef, ast.Lambda, ast.NamedExpr, ast.Div, ast.Pow)
 
 
 def sources():
@@ -121,6 +141,11 @@ class InterfaceTest(unittest.TestCase):
             made = getattr(module(name), cls)(text)
             for attribute in attributes.split():
                 self.assertIn(attribute, vars(made))
+        kernel = module("kernel").Kernel(module("systems").System(told["systems"][1]))
+        self.assertLessEqual(set("system tick spaces rights clans waits turns devices deeds done".split()), set(vars(kernel)))
+        paged = module("paged").Paged((0,) * 256, 2)
+        self.assertLessEqual(set("standing frames store memory fresh written done".split()), set(vars(paged)))
+        self.assertIn("kernel", vars(module("desk").Desk(told["systems"][1] + "\nkernel")))
         cell = module("cells").Cell((0,) * 8, 3)
         self.assertEqual((cell.registers, cell.place), ((0,) * 8, 3))
 
