@@ -56,10 +56,9 @@ def _carry_string(scene, sent, taken):
 def _copy_words(stand, source, goal, many):
     """Words are copied one by one, up to the first that cannot be. Source, goal: (task, address)."""
     for done in range(many):
-        start, end = source[1] + done, goal[1] + done
-        if start > 255 or end > 255:
-            return done
-        word, spot = stand.word_at(source[0], start, "r"), stand.spot(goal[0], end, "w")
+        # Beyond 255 there is no page, so nothing is let there.
+        word = stand.word_at(source[0], source[1] + done, "r")
+        spot = stand.spot(goal[0], goal[1] + done, "w")
         if word is None or spot is None:
             return done
         stand.write(spot, word)

@@ -19,8 +19,6 @@ def read_journal(text):
     if "kernel" not in lines:
         raise BadJournal(len(lines) + 1)
     many = lines.index("kernel")
-    if many == 0:
-        raise BadJournal(1)
     try:
         system = System("\n".join(lines[:many]))
     except BadSystem as error:

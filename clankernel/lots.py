@@ -97,11 +97,8 @@ class Scheme:
 
     def sources(self, thread):
         """The gates from which a thread receives."""
-        state = self.waits.state(thread)
-        if state[0] != "receives" or state[1] == "reply":
-            return []
-        owners = self.waits.owners
-        return [gate for gate, owner in enumerate(owners) if owner == thread and state[1] in ("any", gate)]
+        gates = [gate for gate, owner in enumerate(self.waits.owners) if owner == thread]
+        return [gate for gate in gates if self.waits.is_open(gate)]
 
     def is_stuck_beside(self, thread, lot):
         """Whether nothing frees a thread, nor anybody outside of a lot."""

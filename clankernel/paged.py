@@ -40,7 +40,6 @@ class Paged:
             return ((told[0], told[3]), self)
         later = self.twin()
         later.standing, later.memory = told[1:]
-        later.fresh = ()
         pages = [page for letter, page in self.touched() if letter == "w"]
         later.written = tuple(sorted(set([*self.written, *pages])))
         later.done = self.done + 1
@@ -66,22 +65,18 @@ class Paged:
         return later
 
     def accessed(self):
-        """The pages of the accesses of the next row, as far as its word is known."""
-        place = self.standing.place // 16
-        if place not in self.frames:
-            return [place]
-        return [place] + [page for letter, page in self.touched() if letter != "x"]
+        """The pages of the accesses of the next row, that of its place first."""
+        return [self.standing.place // 16] + [page for letter, page in self.touched() if letter != "x"]
 
     def touched(self):
         return touches(self.standing, self.memory[self.standing.place])
 
     def twin(self):
-        """Another Paged that stands so, to be changed."""
+        """Another Paged that stands so, but for what is fresh."""
         other = Paged(self.store, len(self.frames))
         other.standing = self.standing
         other.frames = self.frames
         other.memory = self.memory
-        other.fresh = self.fresh
         other.written = self.written
         other.done = self.done
         return other

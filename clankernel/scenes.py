@@ -39,17 +39,17 @@ class Scene:
         ahead = _held_pages(self.stand.spaces)
         behind = _held_pages(later)
         self.stand.spaces = later
-        places = [place for place in {**ahead, **behind} if ahead.get(place) != behind.get(place)]
+        places = [place for place in sorted(set([*ahead, *behind])) if ahead.get(place) != behind.get(place)]
         if places:
-            self.happen(("pages", tuple(sorted(places))))
+            self.happen(("pages", tuple(places)))
 
     def change_rights(self, later):
         ahead = _places_of_rights(self.stand.rights)
         behind = _places_of_rights(later)
         self.stand.rights = later
-        numbers = [number for number in {**ahead, **behind} if ahead.get(number) != behind.get(number)]
+        numbers = [number for number in sorted(set([*ahead, *behind])) if ahead.get(number) != behind.get(number)]
         if numbers:
-            self.happen(("rights", tuple(sorted(numbers))))
+            self.happen(("rights", tuple(numbers)))
 
     def send(self, thread, to, badge, halves):
         """A thread's message; halves: words, limit, source, wait. Turns follow it, too."""
@@ -138,7 +138,7 @@ class Scene:
             self.changes.append(("call", sender, receiver))
             return
         if kind == "replied":
-            self.changes.append(("reply", sender, receiver, waits.state(sender) == READY))
+            self.changes.append(("reply", sender, receiver))
         if rests:
             self.changes.append(("rest", receiver))
         else:
@@ -154,9 +154,8 @@ class Scene:
             self.changes.append(("row", thread))
         elif state[0] == "sends" and waits.owners[state[1]] != thread:
             self.changes.append(("wait", thread, waits.owners[state[1]]))
-        elif state[:2] == ("receives", "reply"):
-            self.changes.append(("wait", thread, waits.debtor_of(thread)))
-        else:
+        elif state[:2] != ("receives", "reply"):
+            # Who receives a reply has called who owes it, or waited to be met by it, and hangs on it already.
             self.changes.append(("rest", thread))
 
 
@@ -165,4 +164,4 @@ def _held_pages(spaces):
 
 
 def _places_of_rights(rights):
-    return {row[0]: row[1:3] for row in rights.rows}
+    return {row[0]: row[2] for row in rights.rows}

@@ -25,10 +25,15 @@ same r0 r7
 jump got
 jump none"""
 
-ECHO = """got:
-jump answer"""
-
-COUNTER = """total:
+# The line holds its words in a round of eight times four words, from 96 to 127.
+# Behind `many` of names stand the names that mean something, eight words farther what they mean; the last one
+# comes into the place of one that means nothing any more.
+# The items of the pager map one block: that of the frame that came last, 32 times 12 and 1, or 32 times 13 and 1.
+# Behind them stand its books: of each of both frames where the page in it is held, 0 for none.
+BODIES = {
+    "echo": """got:
+jump answer""",
+    "counter": """total:
 word 0
 many:
 word 0
@@ -60,10 +65,8 @@ add r5 r4
 store r5 r7 total
 copy r4 r2
 set r3 0
-jump answer"""
-
-# What is held stands in a round of eight times four words, from 96 to 127.
-LINE = """first:
+jump answer""",
+    "line": """first:
 word 96
 last:
 word 96
@@ -129,11 +132,8 @@ set r4 0
 noughts:
 set r5 0
 set r6 0
-jump answer"""
-
-# The names that mean something stand behind `many`, from its first word on, what they mean eight words
-# farther. The last one comes into the place of one that means nothing any more.
-NAMES = """many:
+jump answer""",
+    "names": """many:
 word 0
 space 16
 name worths 21
@@ -211,11 +211,8 @@ set r4 0
 noughts:
 set r5 0
 set r6 0
-jump answer"""
-
-# Its items map one block: that of the frame that came last, 32 times 12 and 1, or 32 times 13 and 1.
-# Behind them its books: of each of both frames where the page in it is held, 0 for none.
-PAGER = """items:
+jump answer""",
+    "pager": """items:
 word 2
 block:
 word 417
@@ -312,6 +309,5 @@ load r0 r1 14
 store r0 r2 14
 load r0 r1 15
 store r0 r2 15
-go r7"""
-
-BODIES = {"echo": ECHO, "counter": COUNTER, "line": LINE, "names": NAMES, "pager": PAGER}
+go r7""",
+}

@@ -93,6 +93,9 @@ class EverTest(unittest.TestCase, Checks):
     def test_a_right_to_an_own_gate_links_nobody(self):
         world = rights(3, (0,), (0, 0, "g0", "sg"))
         self.assertFalse(self.can((world, FLAT, BARE), ALL, 1, "g0", "s"))
+        # Nor does it hand anything to itself.
+        self.assertIs(shows_ever(world, FLAT, BARE, ALL, 0, "g0", "s", ("deeds", (("hand", 0, 0, "g0", "s"),))), False)
+        self.assertIs(shows_ever(world, FLAT, BARE, ALL, 0, "g0", "s", ("deeds", ())), True)
 
 
 class ShowsTest(unittest.TestCase, Checks):

@@ -178,6 +178,12 @@ class BadTest(unittest.TestCase, Checks):
                 ("cell 0 9 1 2 3 4 5 6 7 65535 ready - -", "cell 0 9 1 2 3 4 5 6 7 65536 ready - -"), ("cell 0 9 1 2 3 4 5 6 7 65535 ready - -", "cell 0 256 1 2 3 4 5 6 7 8 ready - -"),
                 ("cell 0 9 1 2 3 4 5 6 7 65535 ready - -", "cell 0 9 1 2 3 4 5 6 7 8 rests - -"), ("cell 0 9 1 2 3 4 5 6 7 65535 ready - -", "cell 0 9 1 2 3 4 5 6 7 8 ready 16 -"),
                 ("cell 0 9 1 2 3 4 5 6 7 65535 ready - -", "cell 0 9 1 2 3 4 5 6 7 8 ready none -"), ("cell 0 9 1 2 3 4 5 6 7 65535 ready - -", "cell 0 9 1 2 3 4 5 6 7 ready - -"),
+                *[("cell 0 9 1 2 3 4 5 6 7 65535 ready - -", other) for other in (
+                    "cell 0 9 1 2 3 4 5 6 7 65535 ready - 16", "cell 0 9 1 2 3 4 5 6 7 65535 ready -", "cell 0 9 1 2 3 4 5 6 7 65535 ready", "cell 0 9 1 2 3 4 5 6 7 65535",
+                    "cell 0 9 1 2 3", "cell 0 9", "cell 0", "cell", "cell 0 9 1 2 3 4 5 6 7 65535 ready - - -")],
+                ("border 1 5", "border 1"), ("border 1 5", "border"), ("passing 2 1 - 4", "passing"), ("passing 2 1 - 4", "passing 2"), ("passing 2 1 - 4", "passing 2 1 - 4 4"),
+                ("meant 4 0 4", "meant 4 0"), ("meant 4 0 4", "meant"), ("items 3 0", "items"), ("fault 1 trap 9 -", "fault"), ("fault 1 trap 9 -", "fault 1"), ("input 9 1 65535", "input 9 1"),
+                ("input 9 1 65535", "input"), ("words 2 5 20 3" + " 0" * 13, "words 2"), ("words 2 5 20 3" + " 0" * 13, "words"),
                 ("cell 0 9 1 2 3 4 5 6 7 65535 ready - -", "cell 1 9 1 2 3 4 5 6 7 65535 ready - -"),
                 ("border 1 5", "border 1 2"), ("border 1 5", "border 3 3"), ("border 1 5", "border 1 5\nborder 3 3"), ("border 1 5", "border 1 7"), ("border 1 5", "border 5 1"),
                 ("passing 2 1 - 4", "passing 2 7 - 4"), ("passing 2 1 - 4", "passing 2 1 1000 4"), ("passing 2 1 - 4", "passing 2 1 - 5"), ("passing 2 1 - 4", "passing 7 1 - 4"),
@@ -204,6 +210,8 @@ class BadTest(unittest.TestCase, Checks):
     def test_parts_otherwise_that_are_another_image(self):
         for line, other in (
                 ("cell 0 9 1 2 3 4 5 6 7 65535 ready - -", "cell 0 255 0 0 0 0 0 0 0 0 ready 0 15"), ("passing 2 1 - 4", "passing 2 0 999 4"), ("passing 2 1 - 4", "passing 2 3 - 4"),
+                ("passing 2 1 - 4", "passing 2 1 0 4"), *[("fault 1 trap 9 -", f"fault 1 {told}") for told in (
+                    "trap 0 -", "trap 255 -", "row 0 -", "row 65535 -", "beyond 256 -", "beyond 65535 -", "nought 0 -", "page r 0", "page w 255", "page x 0")],
                 ("items 3 0", "items 3 1 20 2 0 0"), ("row 2 0", "row 0 2"), ("device - 0", "device 1 70 5 255"), ("calls 1 2", "waits 1 2"),
                 ("task 3 1 none", "task 3 0 none"), ("frames 16", "frames 15"),
                 ("input 9 1 65535", "input 9 0 5\ninput 9 0 5"), ("words 2 5 20 3" + " 0" * 13, "words 2 5 20 3" + " 1" * 13)):
@@ -220,6 +228,66 @@ class BadTest(unittest.TestCase, Checks):
         told = {kind: next(line for line in text.split("\n") if line.startswith(kind)) for kind in ("device -", "page 3 0")}
         for line, other in ((told["device -"], told["device -"].replace("-", "4")), (told["page 3 0"], told["page 3 0"] + "\npage 4 0 rx 0 0")):
             self.bad(self.changed((line, other), kernel=kernel))
+
+    def test_threads_of_tasks_that_never_were(self):
+        kernel, _ = told_by(stage(), 0, 3, 2, 10)
+        lines = image(kernel).split("\n")
+        at = lines.index("world turns") + 7
+        self.assertEqual(lines[at], "thread 1 4 20 20")
+        for task in (1, 3):
+            self.assertEqual(len(from_image("\n".join(lines[:at] + [f"thread {task} 4 20 20"] + lines[at + 1:])).waits), 7)
+        for task in (0, 2, 5):
+            self.bad("\n".join(lines[:at] + [f"thread {task} 4 20 20"] + lines[at + 1:]))
+
+    def test_who_waits_stands_in_no_row(self):
+        kernel = receiving(stage(), 2)
+        text = image(kernel)
+        for row in ("row 2", "row 2 0"):
+            self.bad(self.changed(("row", row), kernel=kernel))
+        self.bad(text.replace("\nrow\n", "\nrow\nwaits 2 1\n"))
+        self.bad(text.replace("\nrow\n", "\nrow\nwaits 0 1\n"))
+
+    def test_messages_that_wait(self):
+        sends = "sends 3 5 305 9 9 9 9 8 ever none 0"
+        self.assertIn(sends, image(rich()))
+        for badge in ("0", "999", "none"):
+            text = self.changed((sends, sends.replace("305", badge)))
+            self.assertEqual(image(from_image(text)), text)
+        for other in (sends.replace("305", "1000"), sends.replace("305", "65534"), sends.replace("3 5", "3 0"), sends.replace("3 5", "3 4"), sends.replace("ever", "8")):
+            self.bad(self.changed((sends, other)))
+
+    def test_faults_that_wait(self):
+        sends, line = "sends 5 2 102 3 100 100 0 6 ever reply ever", "fault 5 page x 100"
+        self.assertIn(sends, image(rich()))
+        for other in ("sends 5 2 102 3 100 100 0 6 99 reply ever", "sends 5 2 102 3 100 100 0 6 ever reply 9", "sends 5 2 102 3 100 100 0 6 ever none 0", "sends 5 2 102 3 100 100 0 6 ever any ever",
+                      "sends 5 2 102 3 100 100 1 6 ever reply ever", "sends 5 2 102 1 100 100 0 6 ever reply ever", "sends 5 2 102 9 9 9 9 6 ever reply ever", "sends 5 2 102 3 100 101 0 6 ever reply ever"):
+            self.bad(self.changed((sends, other)))
+        for other in ("fault 0 trap 9 -\n" + line, "fault 3 trap 9 -\n" + line, line + "\nfault 6 page x 100"):
+            self.bad(self.changed((line, other)))
+        # A fault whose answer is waited for has no limit.
+        self.bad(self.changed(("receives 1 reply 5 ever", "receives 1 reply 5 99")))
+
+    def test_passing_rights_stand_at_borders(self):
+        for other in ("passing 6 1 - 4", "passing 1 1 - 4", "passing 4 1 - 4", "passing 2 2 - 4", "passing 2 4 - 4", "passing 2 1 - 2", "passing 2 1 - 1"):
+            self.bad(self.changed(("passing 2 1 - 4", other)))
+
+    def test_inputs_that_can_be(self):
+        many = "\n".join(f"input {tick} 0 5" for tick in range(11, 23))
+        last = "input 400 0 1"
+        # At the next tick, 9, as many as were told, in any sequence; later on as many as a system tells.
+        for other in (many, many.replace("input 22 0 5", last), "input 10 0 5\ninput 10 1 5\ninput 11 0 5"):
+            text = self.changed((last, other))
+            self.assertEqual(image(from_image(text)), text)
+        text = self.changed(("input 9 0 78", "\n".join(["input 9 0 78"] * 20)))
+        self.assertEqual(len(image(from_image(text)).split("input 9")), 24)
+        for other in (many + "\n" + last, "input 10 0 5\ninput 10 0 5", "input 10 0 5\ninput 10 0 6", "input 10 1 5\ninput 10 0 5", "input 11 0 5\ninput 10 0 5"):
+            self.bad(self.changed((last, other)))
+
+    def test_ticks_that_can_be(self):
+        kernel = stage()
+        kernel.run(400)
+        self.assertEqual(from_image(image(kernel)).tick, 400)
+        self.bad(image(kernel).replace("tick 400", "tick 401").replace("now 400", "now 401"))
 
     def test_the_round_goes_by_the_tick(self):
         kernel = stage(turns="0 2 1 3")

@@ -16,14 +16,14 @@ SMALL = "frames 1\ntask 0 -\nthread 0 0 3 4 5 ready\nturns slices"
 
 class AtTick0Test(unittest.TestCase, Checks):
     def test_all_stands_as_the_system_tells(self):
-        system = stage(doors=("doors 1 3 -", "doors 2 - 15")).system
+        system = stage(doors=("doors 1 3 -", "doors 2 - 15", "doors 4 0 0", "doors 5 15 1")).system
         kernel = Kernel(system)
         self.assertIs(kernel.system, system)
         self.same((kernel.tick, kernel.deeds, kernel.done), (0, (), 0))
         for name in ("spaces", "rights", "clans", "waits", "turns", "devices"):
             self.assertTrue(getattr(kernel, name) == getattr(system, name), name)
         self.assertEqual([kernel.doors(thread) for thread in range(7)],
-                         [(None, None), (3, None), (None, 15), (None, None), (None, None), (None, None), (None, None)])
+                         [(None, None), (3, None), (None, 15), (None, None), (0, 0), (15, 1), (None, None)])
         self.assertEqual([kernel.passing(thread) for thread in range(7)], [None] * 7)
         self.assertEqual([kernel.state(thread) for thread in range(7)], ["rests"] * 7)
 

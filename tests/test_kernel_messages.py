@@ -26,7 +26,7 @@ class FormsTest(unittest.TestCase, Checks):
 
     def test_to(self):
         for to in (16, 17, 100, 252, 256, 300, 65535):
-            for source in (254, 255, 1):
+            for source in (253, 254, 255, 1):
                 self.result(11, to, source)
 
     def test_from(self):
@@ -84,6 +84,7 @@ class FormsTest(unittest.TestCase, Checks):
     def test_to_what_there_is_not(self):
         self.result(8, 7, 255)
         self.result(8, 15, 253)
+        self.result(8, 15, 255)
         # A right to a task.
         self.result(8, 10, 255)
         self.result(8, 253, 255)

@@ -3,10 +3,12 @@
 import unittest
 
 from helpers import ANY_VALUES, Checks, is_int
-from stage import HEAD, PAGES, RIGHTS, TRAP, act, by_place, edited, limits, receiving, sixteen, stage, told_by
+from stage import CODE, HEAD, PAGES, RIGHTS, TRAP, act, by_place, edited, limits, receiving, sixteen, stage, told_by
 from clankernel.errors import BadTasks, NoTask, Root
 from clankernel.images import from_image, image
+from clankernel.kernel import Kernel
 from clankernel.kills import goes, pointing
+from clankernel.systems import System
 
 W = (1, 2, 3, 4)
 NAMES = ("clans", "devices", "passing", "rights", "spaces", "turns", "waits")
@@ -152,6 +154,60 @@ class KillTest(unittest.TestCase, Checks):
         rights = RIGHTS + ["right 43 4 10 t1 c - 40"]
         kernel, events = killed(stage(rights=rights), 4)
         self.same((events[0], events[-1]), (("killed", (1, 3)), ("result", 4, 0)))
+
+    def test_the_root_is_not_killed(self):
+        # No system tells a right to it; an image may.
+        text = image(stage(rights=["right 0 1 0 g0 sg - -"])).replace("right 0 1 0 g0 sg - -", "right 0 1 0 t0 cg - -")
+        kernel, events = told_by(from_image(text), 1, 3, 2, 0)
+        self.same((events, kernel.clans.tasks), ((("result", 1, 13),), (0, 1, 2, 3, 4)))
+
+    def test_gates_and_threads_of_other_numbers(self):
+        """Task 1 goes with thread 2 and gates 0 and 3, of which one is its border."""
+        text = """frames 2
+task 0 -
+task 1 0
+task 2 0
+task 3 2
+thread 0 0 0 4 9 ready
+thread 1 2 0 4 9 rests
+thread 2 1 0 4 9 rests
+thread 3 3 0 4 9 rests
+gate 0 2
+gate 1 1
+gate 2 3
+gate 3 2
+gate 4 0
+border 1 3
+border 2 1
+right 0 0 10 t1 c - -
+right 1 0 0 g0 s - -
+right 2 0 1 g1 s - -
+right 3 0 2 g2 s - -
+right 4 0 3 g3 s - -
+right 5 0 4 g4 s - -
+page 1 0 rx 0 0
+page 2 0 rx 0 0
+page 3 0 rx 0 0
+words 0 """ + " ".join(map(str, CODE)) + """
+device 2 0
+device 1 0
+device 3 9
+turns slices"""
+        kernel = Kernel(System(text))
+        self.same(goes(kernel, 1), ((1,), (2,), (0, 3)))
+        kernel, events = told_by(edited(kernel, row=(3, 2, 0)), 0, 3, 2, 10)
+        self.same(events, (("killed", (1,)), ("pages", ((1, 0),)), ("rights", (0, 1, 4)), ("result", 0, 0)))
+        self.assertEqual(kernel.turns.row, (0, 3))
+        self.assertEqual([kernel.state(thread) for thread in range(4)], ["ready", "rests", "gone", "ready"])
+        self.assertEqual(kernel.devices.text, "device 2 0\ndevice 1 0\ndevice - 0")
+        self.assertEqual([line for line in image(kernel).split("\n") if line.startswith("border")], ["border 2 1"])
+        self.same([pointing(kernel, (task,)) for task in range(4)], [("clans", "rights", "turns", "waits"), (), ("clans", "devices", "rights", "spaces", "waits"), ("clans", "devices", "rights", "spaces", "turns", "waits")])
+        # What is meant for a gate that goes has another number than its threads.
+        kernel = Kernel(System(text.replace("right 1 0 0 g0 s - -", "right 1 3 0 g0 s - -")))
+        kernel, _ = told_by(receiving(kernel, 1), 3, 0, 0, 255, 0)
+        self.same(kernel.passing(1), (0, None, 3))
+        kernel, _ = told_by(edited(kernel, row=()), 0, 3, 2, 10)
+        self.same(kernel.passing(1), None)
 
     def test_twice_and_what_is_no_right(self):
         kernel, _ = killed(stage())

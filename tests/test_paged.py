@@ -63,7 +63,7 @@ class PagedTest(unittest.TestCase, Checks):
 
     def test_brought_in_its_sequence_of_errors(self):
         paged = Paged(START, 2).brought(0, 0)
-        for value in ANY_VALUES + (-1, 17):
+        for value in ANY_VALUES + (-1, 2, 3, 17):
             if not is_int(value, 0, 15):
                 self.fails(BadPage, value, paged.brought, value, 9)
             if not is_int(value, 0, 1):
@@ -96,6 +96,16 @@ class PagedTest(unittest.TestCase, Checks):
         text = "set r0 5\nstore r0 r1 16\nstore r0 r1 17\nstore r0 r1 0\nload r2 r1 16"
         end, _, paged = carried(memory_of(Program(text).words), 2, "turn", 5)
         self.same((end, paged.written, paged.done, paged.standing.registers[2]), (("rows",), (0, 1), 5, 5))
+
+    def test_just_the_page_goes_to_the_store(self):
+        # Pages 1 and 2 are written all over at their edges; page 1 goes out.
+        text = "set r0 9\nstore r0 r1 16\nstore r0 r1 31\nstore r0 r1 32\nstore r0 r1 47\nstore r0 r1 15\nload r2 r1 50"
+        _, _, paged = carried(memory_of(Program(text).words), 4, "turn", 7)
+        self.same((paged.frames, paged.written), ((0, 1, 2, 3), (0, 1, 2)))
+        later = paged.brought(5, 1)
+        self.same([later.store[at] for at in (15, 16, 31, 32, 47)], [0, 9, 9, 0, 0])
+        self.same([later.memory[at] for at in (15, 16, 31, 32, 47)], [9] * 5)
+        self.same((later.written, later.brought(6, 0).written, len(later.store)), ((0, 2), (2,), 256))
 
     def test_equality(self):
         one, other = Paged(START, 2), Paged(START, 2)

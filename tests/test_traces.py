@@ -12,8 +12,8 @@ X = (9, 8, 7, 65535)
 ONE_OF_EACH = (
     (1, "rang", 0, 65535), (400, "rang", 3, 0), (7, "idle"), (7, "row", 7, 255), (7, "call", 0, 15), (7, "fault", 1, ("page", "r", 255)),
     (7, "fault", 1, ("trap", 0)), (7, "met", "sent", 0, 7, 11, None, W), (7, "met", "called", 0, 1, 0, 999, W),
-    (7, "met", "replied", 1, 0, None, None, X), (7, "met", "device", None, 2, 3, 65534, (8, 0, 5, 1)), (7, "string", 0, 1, 16),
-    (7, "pages", ((0, 15), (5, 0))), (7, "rights", (0, 9998)), (7, "passing", 0, 11, None, 5), (7, "passing", 7, 0, 999, 0),
+    (7, "met", "replied", 1, 0, None, None, X), (7, "met", "device", None, 2, 3, 65534, (8, 0, 5, 1)), (7, "string", 0, 1, 16), (7, "string", 7, 0, 1),
+    (7, "pages", ((0, 15), (5, 0))), (7, "rights", (0, 9998)), (7, "passing", 0, 11, None, 5), (7, "passing", 7, 0, 999, 0), (7, "passing", 7, 0, 0, 0),
     (7, "killed", (1, 5)), (7, "rests", 3),
 ) + tuple((7, "result", 2, number) for number in (0, 1, 2, 3, 4, 5, 6, 7, 8, 9, 10, 11, 13))
 
