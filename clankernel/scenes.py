@@ -36,20 +36,20 @@ class Scene:
         self.changes.append(("rest", thread))
 
     def change_spaces(self, later):
-        ahead = _held_pages(self.stand.spaces)
-        behind = _held_pages(later)
+        ahead = self.stand.spaces
         self.stand.spaces = later
-        places = [place for place in sorted(set([*ahead, *behind])) if ahead.get(place) != behind.get(place)]
-        if places:
-            self.happen(("pages", tuple(places)))
+        self.tell_changed("pages", _held_pages(ahead), _held_pages(later))
 
     def change_rights(self, later):
-        ahead = _places_of_rights(self.stand.rights)
-        behind = _places_of_rights(later)
+        ahead = self.stand.rights
         self.stand.rights = later
-        numbers = [number for number in sorted(set([*ahead, *behind])) if ahead.get(number) != behind.get(number)]
-        if numbers:
-            self.happen(("rights", tuple(numbers)))
+        self.tell_changed("rights", _places_of_rights(ahead), _places_of_rights(later))
+
+    def tell_changed(self, kind, ahead, behind):
+        """Tell all for which this is otherwise than it was, if there is one."""
+        changed = [one for one in sorted(set([*ahead, *behind])) if ahead.get(one) != behind.get(one)]
+        if changed:
+            self.happen((kind, tuple(changed)))
 
     def send(self, thread, to, badge, halves):
         """A thread's message; halves: words, limit, source, wait. Turns follow it, too."""

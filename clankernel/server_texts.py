@@ -1,8 +1,8 @@
 """The texts of the servers' programs: HEAD, and behind it what each does with what came.
 
-At `got` r1 is the badge, r3 to r6 are the words that came; at `answer` r3 to r6 are the answer. At
-`none` nothing is answered, at `reply` r7 tells items. Data stand behind HEAD, so that the number of
-a row with a register that is 0 reaches them.
+At `got` r1 is the badge, r3 to r6 are the words that came; at `answer` r3 to r6 are the answer, of
+which `nought` and `noughts` set the last three, or two, to 0. At `none` nothing is answered, at `reply`
+r7 tells items. Data stand behind HEAD, so that the number of a row with a register that is 0 reaches them.
 """
 
 # A reply that nobody waits for brings 8 and no message: then the next one is waited for alone. Whoever
@@ -11,6 +11,11 @@ HEAD = """none:
 set r0 255
 set r7 0
 jump halves
+nought:
+set r4 0
+noughts:
+set r5 0
+set r6 0
 answer:
 set r7 0
 reply:
@@ -28,8 +33,9 @@ jump none"""
 # The line holds its words in a round of eight times four words, from 96 to 127.
 # Behind `many` of names stand the names that mean something, eight words farther what they mean; the last one
 # comes into the place of one that means nothing any more.
-# The items of the pager map one block: that of the frame that came last, 32 times 12 and 1, or 32 times 13 and 1.
-# Behind them stand its books: of each of both frames where the page in it is held, 0 for none.
+# The items of the pager map one block. Of each of its frames it knows the block (32 times the page, and 1), the
+# address, and by its books where the page in it is held, 0 for none: at 24 and at 28; `turn` is that of the frame
+# that was taken last.
 BODIES = {
     "echo": """got:
 jump answer""",
@@ -48,10 +54,7 @@ set r0 1
 same r3 r0
 jump add
 set r3 1
-set r4 0
-set r5 0
-set r6 0
-jump answer
+jump nought
 tell:
 copy r4 r2
 copy r5 r2
@@ -127,16 +130,11 @@ high r3 255
 jump nought
 full:
 set r3 2
-nought:
-set r4 0
-noughts:
-set r5 0
-set r6 0
-jump answer""",
+jump nought""",
     "names": """many:
 word 0
 space 16
-name worths 21
+name worths 24
 got:
 set r7 0
 zero r4 bad
@@ -206,38 +204,38 @@ set r3 3
 jump nought
 full:
 set r3 2
-nought:
-set r4 0
-noughts:
-set r5 0
-set r6 0
-jump answer""",
+jump nought""",
     "pager": """items:
 word 2
 block:
-word 417
+word 0
 word 7
 word 0
 word 0
+turn:
+word 28
+at 24
+word 385
+word 192
 word 0
+at 28
+word 417
+word 208
 word 0
-name books 6
 got:
 some r6 none
-set r0 1
-sub r3 r0
-set r0 2
-less r0 r3
-jump none
+zero r3 none
 set r0 63
 less r0 r4
 jump none
 set r0 255
 less r0 r5
 jump none
+set r0 3
+less r0 r3
+jump none
 xor r5 r4
 zero r5 fault
-set r0 2
 same r3 r0
 jump none
 fault:
@@ -246,20 +244,16 @@ and r4 r0
 set r0 128
 add r4 r0
 set r7 0
-load r5 r7 block
-set r0 32
+load r5 r7 turn
+set r0 4
 xor r5 r0
-store r5 r7 block
-copy r6 r5
-set r0 1
-shr r6 r0
-copy r1 r5
-set r0 5
-shr r1 r0
-load r3 r1 books
-store r4 r1 books
+store r5 r7 turn
+load r0 r5 0
+store r0 r7 block
+load r6 r5 1
+load r3 r5 2
+store r4 r5 2
 zero r3 bring
-copy r0 r5
 set r1 7
 set r2 0
 call 1

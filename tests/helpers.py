@@ -4,12 +4,17 @@ from clankernel.answers import Loads
 from clankernel.asm import Program
 from clankernel.cells import Cell
 from clankernel.clans import Clans
+from clankernel.desk import Desk
 from clankernel.devices import Devices
+from clankernel.kernel import Kernel
+from clankernel.paged import Paged
 from clankernel.rights import Rights
 from clankernel.spaces import Spaces
 from clankernel.systems import System
 from clankernel.turns import Turns
 from clankernel.waiting import Waits
+
+SMALLEST = "frames 1\ntask 0 -\nthread 0 0 0 0 1 rests\nturns slices"
 
 
 def nested(depth):
@@ -27,7 +32,7 @@ ANY_VALUES = (
     Cell((0,) * 8, 0), Program("# none"), Spaces("frames 1\ntasks 1"), Rights("tasks 1\nnext 0"),
     Waits("now 0\nthreads 1\ngates"), Devices("none"), Loads("job 1 0 1"),
     Clans("clans 1\ntask 0 - none"), Turns("manner slices\nthread 0 0 1 1\nrow 0"),
-    System("frames 1\ntask 0 -\nthread 0 0 0 0 1 rests\nturns slices"),
+    System(SMALLEST), Kernel(System(SMALLEST)), Paged((0,) * 256, 2), Desk(SMALLEST + "\nkernel"),
 )
 
 
