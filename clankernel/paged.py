@@ -22,12 +22,11 @@ class Paged:
         self.done = 0
 
     def __eq__(self, other):
-        return isinstance(other, Paged) and self.parts() == other.parts()
-
-    def parts(self):
-        cell = self.standing
-        stands = (cell.registers, cell.place, self.frames, self.store, self.memory)
-        return (*stands, self.fresh, self.written, self.done)
+        if not isinstance(other, Paged) or self.standing != other.standing or self.frames != other.frames:
+            return False
+        if self.store != other.store or self.memory != other.memory:
+            return False
+        return self.fresh == other.fresh and self.written == other.written and self.done == other.done
 
     def next_row(self):
         for page in self.accessed():

@@ -209,6 +209,24 @@ class LanguageTest(unittest.TestCase):
                         self.assertIn(alias.name, defined[name], path)
                         self.assertIsNone(alias.asname, path)
 
+    def test_no_two_files_import_from_each_other(self):
+        ahead = {path.stem: [node.module.partition(".")[2] for node in ast.parse(text).body if isinstance(node, ast.ImportFrom)]
+                 for path, text in sources()}
+        while ahead:
+            last = [name for name in ahead if not any(other in ahead for other in ahead[name])]
+            self.assertTrue(last, ahead)
+            ahead = {name: ahead[name] for name in ahead if name not in last}
+
+    def test_no_name_is_a_method_and_an_attribute(self):
+        methods, attributes = set(), set()
+        for _, text in sources():
+            for node in ast.walk(ast.parse(text)):
+                if isinstance(node, ast.ClassDef):
+                    methods |= {part.name for part in node.body if isinstance(part, ast.FunctionDef)}
+                if isinstance(node, ast.Attribute) and isinstance(node.ctx, ast.Store):
+                    attributes.add(node.attr)
+        self.assertEqual(methods & attributes, set())
+
     def test_names_are_known_used_and_no_builtins(self):
         for path, text in sources():
             tree = ast.parse(text)

@@ -114,6 +114,11 @@ class PagedTest(unittest.TestCase, Checks):
         self.assertTrue(one.brought(0, 0) == other.brought(0, 0))
         self.assertTrue(one.brought(0, 0) != other.brought(0, 1))
         self.assertTrue(one.brought(0, 0).brought(1, 1).next_row()[1] != one.brought(0, 0).brought(1, 1))
+        # Alike in all but one part.
+        for part, value in (("standing", FIRST.with_place(1)), ("frames", (0, None)), ("store", ZERO), ("memory", ZERO), ("fresh", (0,)), ("written", (0,)), ("done", 1)):
+            bent = Paged(START, 2)
+            setattr(bent, part, value)
+            self.assertTrue(bent != one and not bent == one and not one == bent)
         for value in ANY_VALUES:
             self.assertFalse(one == value)
             self.assertTrue(one != value)
