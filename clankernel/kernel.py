@@ -150,7 +150,8 @@ class Trial:
 
     def __init__(self, kernel):
         self.kernel = kernel
-        self.kept = False
+        # None until keep is called: where a block ends, attributes are asked for None alone.
+        self.kept = None
 
     def __enter__(self):
         kernel = self.kernel
@@ -172,7 +173,7 @@ class Trial:
 
     def __exit__(self, kind, value, trace):
         kernel = self.kernel
-        if kind is not None or not self.kept:
+        if kind is not None or self.kept is None:
             kernel.stand = self.stand
             kernel.past = self.past
             kernel.future = self.future

@@ -170,6 +170,17 @@ class TrialTest(Stands):
                 self.assertEqual(held.tick, 1 if not outer else (6 if inner else 3))
                 self.fails(NoTrial, None, held.keep)
 
+    def test_each_block_is_kept_by_itself(self):
+        for first in (False, True):
+            for second in (False, True):
+                held = kernel()
+                for keeps in (first, second):
+                    with held.trial():
+                        held.run(2)
+                        if keeps:
+                            held.keep()
+                self.assertEqual(held.done, first + second)
+
     def test_keep_belongs_to_the_innermost_block(self):
         held = kernel()
         with held.trial():
@@ -272,6 +283,18 @@ class TriedTest(Stands):
             self.same(self.stands(held), before)
             self.fails(NoTrial, None, held.keep)
 
+    def test_an_error_behind_keep(self):
+        held = kernel()
+        held.run(3)
+        held.undo()
+        before = self.stands(held)
+        for keep in (False, True):
+            self.fails(BadNumber, 0, held.tried, lambda one: (one.run(4), one.keep(), one.run(0)), keep=keep)
+            self.same(self.stands(held), before)
+            self.fails(NoTrial, None, held.keep)
+        held.redo()
+        self.same(held.deeds, (("run", 3),))
+
     def test_keep_is_passed_by_its_name(self):
         self.assertRaises(TypeError, kernel().tried, lambda one: None, True)
 
@@ -315,6 +338,22 @@ class CopyTest(Stands):
         self.same((held.tick, other.tick), (1, 3))
         other.undo()
         self.same(self.stands(other), self.stands(held))
+
+    def test_of_a_block_that_is_kept(self):
+        for keeps in (False, True):
+            held = kernel()
+            with held.trial():
+                held.run(2)
+                if keeps:
+                    held.keep()
+                other = held.copy()
+                with other.trial():
+                    other.run(1)
+            self.same((held.tick, other.tick), (2 if keeps else 0, 2))
+            with other.trial():
+                other.run(1)
+                other.keep()
+            self.same((held.tick, other.tick), (2 if keeps else 0, 3))
 
     def test_of_a_kernel_without_a_system(self):
         held = edited(stage(), {0: (SET, ())}, (0,))

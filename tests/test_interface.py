@@ -94,6 +94,10 @@ BUILTINS = set("""len range enumerate zip min max sum abs sorted reversed int st
 BARRED = (ast.GeneratorExp, ast.Set, ast.SetComp, ast.Global, ast.Nonlocal, ast.Yield, ast.YieldFrom, ast.Await,
           ast.AsyncFunctionDef, ast.Lambda, ast.NamedExpr, ast.Div, ast.Pow)
 
+# Beneath the rows of __exit__: assignments, tests, names and attributes, no call, no sign and no item.
+ROWS_OF_ENDS = (ast.Assign, ast.If, ast.BoolOp, ast.boolop, ast.UnaryOp, ast.Not, ast.Compare, ast.Is, ast.IsNot,
+                ast.Attribute, ast.Name, ast.Constant, ast.expr_context)
+
 
 def sources():
     return [(path, path.read_text(encoding="utf-8")) for path in sorted(PACKAGE.glob("*.py"))]
@@ -197,6 +201,26 @@ class LanguageTest(unittest.TestCase):
                 if isinstance(node, ast.Constant) and isinstance(node.value, str):
                     self.assertNotIn("%", node.value, path)
 
+    def test_where_a_block_ends_only_none_is_asked_for(self):
+        ends = []
+        for path, text in sources():
+            for node in ast.walk(ast.parse(text)):
+                self.assertFalse(isinstance(node, ast.Try) and node.finalbody, path)
+                if isinstance(node, ast.FunctionDef) and node.name == "__exit__":
+                    ends.append(node)
+        self.assertEqual(len(ends), 1)
+        for part in [part for end in ends for row in end.body for part in ast.walk(row)]:
+            self.assertIsInstance(part, ROWS_OF_ENDS)
+            if isinstance(part, ast.If):
+                self.assertTrue(_asks_for_none(part.test), part.lineno)
+
+    def test_what_asks_for_none_alone(self):
+        for text in ("a is None", "a.b is not None", "not (a is None and b.c is not None or d is None)"):
+            self.assertTrue(_asks_for_none(ast.parse(text, mode="eval").body), text)
+        for text in ("a", "a.b", "not a.b", "a is None or not a.b", "a is True", "a == None", "a == 1", "None is a",
+                     "a() is None", "a[0] is None", "a is b is None"):
+            self.assertFalse(_asks_for_none(ast.parse(text, mode="eval").body), text)
+
     def test_imports_name_the_file_that_defines_the_name(self):
         defined = {path.stem: set(_defined(ast.parse(text))) for path, text in sources()}
         for path, text in sources():
@@ -254,6 +278,18 @@ def _defined(tree):
             yield node.name
         if isinstance(node, ast.Assign):
             yield node.targets[0].id
+
+
+def _asks_for_none(test):
+    """Whether a test asks names and attributes only whether they are None."""
+    if isinstance(test, ast.BoolOp):
+        return all(_asks_for_none(part) for part in test.values)
+    if isinstance(test, ast.UnaryOp) and isinstance(test.op, ast.Not):
+        return _asks_for_none(test.operand)
+    if not isinstance(test, ast.Compare) or len(test.ops) != 1 or not isinstance(test.ops[0], (ast.Is, ast.IsNot)):
+        return False
+    side = test.comparators[0]
+    return isinstance(test.left, (ast.Name, ast.Attribute)) and isinstance(side, ast.Constant) and side.value is None
 
 
 if __name__ == "__main__":
